@@ -1,0 +1,1 @@
+"""Renamesteps: renaming declarations one at a time."""

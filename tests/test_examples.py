@@ -1,0 +1,101 @@
+"""The examples of the document, run as the document writes them, and those of README.md."""
+
+import doctest
+import pathlib
+import re
+import unittest
+
+from renamesteps import errors
+
+DOCUMENT = pathlib.Path(__file__).resolve().parents[2] / "shared" / "DOC.md"
+README = pathlib.Path(__file__).resolve().parents[1] / "README.md"
+# The examples of the modules that exist so far.
+LAST_EXAMPLE = 6
+
+EXAMPLES = {
+    "e01": '''
+    >>> from renamesteps.programs import is_program
+    >>> program = ((-1, 2, (1,)), (0, 1, (0, 2)), (0, 1, (3,)))
+    >>> [is_program(program), is_program(((-1, 1, ()), (0, 0, (1,)))), is_program(()), is_program(((-1, 0, ()), (0, 0, ()), (0, 0, ()), (1, 0, ())))]
+    [True, False, False, False]
+''',
+    "e02": '''
+    >>> from renamesteps.programs import declarations_of, home_of
+    >>> program = ((-1, 2, (1,)), (0, 1, (0, 2)), (0, 1, (3,)))
+    >>> [home_of(program, 3), declarations_of(program, 0)]
+    [2, (0, 1)]
+''',
+    "e03": '''
+    >>> from renamesteps.programs import home_of
+    >>> program = ((-1, 2, (1,)), (0, 1, (0, 2)), (0, 1, (3,)))
+    >>> home_of(program, 4)
+    raises NoDeclaration(4)
+''',
+    "e04": '''
+    >>> from renamesteps.programs import enclosing_scopes, height_of, inner_scopes
+    >>> program = ((-1, 1, ()), (0, 0, ()), (1, 1, (0, 1)))
+    >>> [enclosing_scopes(program, 2), inner_scopes(program, 1), height_of(program)]
+    [(2, 1, 0), (1, 2), 3]
+''',
+    "e05": '''
+    >>> from renamesteps.names import is_name, is_naming, is_pool
+    >>> program = ((-1, 2, (1,)), (0, 1, (0, 2)), (0, 1, (3,)))
+    >>> [is_name("abc"), is_name("a1"), is_pool(("b", "a")), is_pool(("a", "a")), is_naming(program, ("a", "a", "a", "a")), is_naming(program, ("a",))]
+    [True, False, True, False, True, False]
+''',
+    "e06": '''
+    >>> from renamesteps.names import look_up
+    >>> program = ((-1, 2, (1,)), (0, 1, (0, 2)), (0, 1, (3,)))
+    >>> naming = ("a", "b", "b", "a")
+    >>> [look_up(program, naming, 1, "b"), look_up(program, naming, 1, "a"), look_up(program, naming, 2, "b"), look_up(program, naming, 2, "c")]
+    [2, 0, 1, None]
+''',
+}
+
+
+def lines_of(block):
+    return [line.strip() for line in block.strip().split("\n")]
+
+
+def value_of(code):
+    """What the last line of an example returns."""
+    space = {}
+    exec("\n".join(code[:-1]), space)
+    return eval(code[-1], space)
+
+
+class ExamplesTest(unittest.TestCase):
+    def run_example(self, block):
+        *steps, expected = lines_of(block)
+        code = [step.removeprefix(">>> ") for step in steps]
+        if not expected.startswith("raises "):
+            self.assertEqual(repr(value_of(code)), expected)
+            return
+        awaited = eval(expected.removeprefix("raises "), vars(errors))
+        with self.assertRaises(type(awaited)) as context:
+            value_of(code)
+        self.assertEqual(vars(context.exception), vars(awaited))
+
+    def test_all_examples(self):
+        for name, block in EXAMPLES.items():
+            with self.subTest(name):
+                self.run_example(block)
+
+    @unittest.skipUnless(DOCUMENT.exists(), "the document is not beside the repository")
+    def test_the_document_has_these_examples(self):
+        text = DOCUMENT.read_text(encoding="utf-8")
+        found = dict(re.findall(r"^Example (e\d\d):\n\n((?:    .*\n?)+)", text, re.MULTILINE))
+        wanted = [f"e{number:02}" for number in range(1, LAST_EXAMPLE + 1)]
+        self.assertEqual(list(EXAMPLES), wanted)
+        for name in wanted:
+            with self.subTest(name):
+                self.assertEqual(lines_of(EXAMPLES[name]), lines_of(found[name]))
+
+    def test_the_examples_of_the_readme(self):
+        failed, tried = doctest.testfile(str(README), module_relative=False)
+        self.assertEqual(failed, 0)
+        self.assertGreater(tried, 0)
+
+
+if __name__ == "__main__":
+    unittest.main()
