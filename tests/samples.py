@@ -1,4 +1,9 @@
-"""Programs and values that several tests use."""
+"""Programs, namings and values that several tests use."""
+
+import itertools
+import random
+
+from tests import definitions
 
 # The program of most examples of the document.
 EXAMPLE = ((-1, 2, (1,)), (0, 1, (0, 2)), (0, 1, (3,)))
@@ -14,7 +19,78 @@ GAPS = ((-1, 0, ()), (0, 2, (0, 1)), (1, 0, (1,)), (0, 0, ()), (3, 0, ()), (4, 3
 # 40 scopes and 60 declarations, both limits at once.
 LARGEST = tuple((scope - 1, 2 if scope < 20 else 1, (0,)) for scope in range(40))
 
-PROGRAMS = (EXAMPLE, SINGLE, BARE, CHAIN, BESIDE, BARE_CHAIN, CROWDED, GAPS, LARGEST)
+# A declaration of scope 0 that only the innermost of 40 scopes uses.
+FAR = ((-1, 1, ()),) + tuple((scope - 1, 0, ()) for scope in range(1, 39)) + ((38, 0, (0,)),)
+# 40 scopes inside one another, whose declarations are all used in the innermost one.
+FUNNEL = tuple((scope - 1, 1, ()) for scope in range(39)) + ((38, 1, tuple(range(40))),)
+# 40 scopes inside one another, of which each uses only the declaration of the scope around it.
+LINKS = ((-1, 1, ()),) + tuple((scope - 1, 1, (scope - 1,)) for scope in range(1, 40))
+
+PROGRAMS = (EXAMPLE, SINGLE, BARE, CHAIN, BESIDE, BARE_CHAIN, CROWDED, GAPS, LARGEST, FAR, FUNNEL, LINKS)
+
+LETTERS = "abcdefghijklmnopqrstuvwxyz"
+HUNDRED = tuple(LETTERS[at // 26] + LETTERS[at % 26] for at in range(100))
+
+
+def subsets(values):
+    return [chosen for many in range(len(values) + 1) for chosen in itertools.combinations(values, many)]
+
+
+def programs_of_shape(parents, counts):
+    """All programs with these parents and counts: one for each choice of the uses."""
+    bare = tuple((parent, count, ()) for parent, count in zip(parents, counts))
+    around = definitions.enclosing(bare)
+    visible = [
+        [number for number, home in enumerate(definitions.homes(bare)) if home in around[scope]]
+        for scope in range(len(bare))]
+    for uses in itertools.product(*(subsets(numbers) for numbers in visible)):
+        yield tuple((parent, count, used) for parent, count, used in zip(parents, counts, uses))
+
+
+def small_programs(most):
+    """All programs of one to three scopes with so many declarations at most."""
+    for parents in ((-1,), (-1, 0), (-1, 0, 0), (-1, 0, 1)):
+        for counts in itertools.product(range(most + 1), repeat=len(parents)):
+            if sum(counts) <= most:
+                yield from programs_of_shape(parents, counts)
+
+
+def random_program(source, scopes, declarations, chance):
+    """A program of this size in which each scope uses what it can see with a chance of so many in a hundred."""
+    # Of how many scopes around the last one the next parent is chosen: with few of them, the program is deep.
+    near = source.choice((1, 2, 3, scopes))
+    parents = [-1]
+    around = [[0]]
+    for scope in range(1, scopes):
+        parents.append(source.choice(around[-1][:near]))
+        around.append([scope] + around[parents[-1]])
+    homes = sorted(source.choices(range(scopes), k=declarations))
+    rows = []
+    for scope in range(scopes):
+        visible = [number for number, home in enumerate(homes) if home in around[scope]]
+        uses = tuple(number for number in visible if source.randrange(100) < chance)
+        rows.append((parents[scope], homes.count(scope), uses))
+    return tuple(rows)
+
+
+def random_programs(seed, many, scopes=40, declarations=60):
+    """So many programs of sizes up to these, beside the largest ones."""
+    source = random.Random(seed)
+    for at in range(many):
+        largest = at % 5 == 0
+        yield random_program(
+            source, scopes if largest else source.randrange(1, scopes + 1),
+            declarations if largest else source.randrange(declarations + 1), source.choice((2, 5, 15, 40)))
+
+
+def random_valid_naming(source, program, pool):
+    """A valid naming with names of the pool, which has at least as many as the width."""
+    conflicts = definitions.conflicts(program)
+    naming = []
+    for number in range(len(definitions.homes(program))):
+        taken = {naming[other] for other in range(number) if (other, number) in conflicts}
+        naming.append(source.choice([name for name in pool if name not in taken]))
+    return tuple(naming)
 
 
 class Unfriendly:

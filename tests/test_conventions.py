@@ -1,13 +1,13 @@
-"""Tests of what holds for all functions: their parameters, unchanged arguments, and the limits."""
+"""Tests of what holds for all functions: their parameters, unchanged arguments, errors, and the limits."""
 
 import copy
 import inspect
 import itertools
 import unittest
 
-from renamesteps import names, programs
-from renamesteps.errors import NoDeclaration, NoScope
-from tests.samples import EXAMPLE, any_values
+from renamesteps import fewest, names, programs, regions, validity
+from renamesteps.errors import NoDeclaration, NoScope, RenameError
+from tests.samples import EXAMPLE, HUNDRED, any_values
 
 NAMING = ("a", "b", "b", "a")
 
@@ -23,21 +23,49 @@ CALLS = (
     (names.is_pool, {"value": ("b", "a")}, True),
     (names.is_naming, {"program": EXAMPLE, "value": NAMING}, True),
     (names.look_up, {"program": EXAMPLE, "naming": NAMING, "scope": 1, "name": "b"}, 2),
+    (validity.find_problems, {"program": EXAMPLE, "naming": ("a", "b", "a", "a")}, (("captured", 1, 0, 2),)),
+    (validity.is_valid, {"program": EXAMPLE, "naming": NAMING}, True),
+    (regions.region_of, {"program": EXAMPLE, "declaration": 0}, (0, 1)),
+    (regions.needed_in, {"program": EXAMPLE, "scope": 1}, (0, 2)),
+    (regions.in_conflict, {"program": EXAMPLE, "one": 2, "other": 0}, True),
+    (regions.conflicts_of, {"program": EXAMPLE, "declaration": 0}, (1, 2)),
+    (regions.all_conflicts, {"program": EXAMPLE}, ((0, 1), (0, 2))),
+    (regions.width_of, {"program": EXAMPLE}, 2),
+    (regions.widest_scope, {"program": EXAMPLE}, 0),
+    (fewest.smallest_naming, {"program": EXAMPLE, "pool": ("c", "a", "b")}, ("c", "a", "a", "c")),
+    (fewest.shows_fewest, {"program": EXAMPLE, "naming": NAMING, "scope": 1}, True),
 )
 
-# Functions and their parameters that accept any value, beside arguments for the other ones.
+# Functions and their parameters that accept any value, with the error for what is wrong there and its field.
+# Functions without an error return False or None.
+NO_DECLARATION = (NoDeclaration, "declaration")
+NO_SCOPE = (NoScope, "scope")
 OPEN_PARAMETERS = (
-    (programs.is_program, "value", {}),
-    (programs.home_of, "declaration", {"program": EXAMPLE}),
-    (programs.declarations_of, "scope", {"program": EXAMPLE}),
-    (programs.enclosing_scopes, "scope", {"program": EXAMPLE}),
-    (programs.inner_scopes, "scope", {"program": EXAMPLE}),
-    (names.is_name, "value", {}),
-    (names.is_pool, "value", {}),
-    (names.is_naming, "value", {"program": EXAMPLE}),
-    (names.look_up, "scope", {"program": EXAMPLE, "naming": NAMING, "name": "a"}),
-    (names.look_up, "name", {"program": EXAMPLE, "naming": NAMING, "scope": 1}),
+    (programs.is_program, "value", None),
+    (programs.home_of, "declaration", NO_DECLARATION),
+    (programs.declarations_of, "scope", NO_SCOPE),
+    (programs.enclosing_scopes, "scope", NO_SCOPE),
+    (programs.inner_scopes, "scope", NO_SCOPE),
+    (names.is_name, "value", None),
+    (names.is_pool, "value", None),
+    (names.is_naming, "value", None),
+    (names.look_up, "scope", NO_SCOPE),
+    (names.look_up, "name", None),
+    (regions.region_of, "declaration", NO_DECLARATION),
+    (regions.needed_in, "scope", NO_SCOPE),
+    (regions.in_conflict, "one", NO_DECLARATION),
+    (regions.in_conflict, "other", NO_DECLARATION),
+    (regions.conflicts_of, "declaration", NO_DECLARATION),
+    (fewest.shows_fewest, "scope", NO_SCOPE),
 )
+
+
+def arguments_with(function, parameter, value):
+    """The arguments of the function in CALLS, with another value of one parameter."""
+    for called, arguments, _ in CALLS:
+        if called is function:
+            return {**arguments, parameter: value}
+    raise KeyError(function)
 
 
 def mutable_values():
@@ -93,30 +121,36 @@ class UnchangedArgumentsTest(unittest.TestCase):
             self.assertEqual(arguments, before)
 
     def test_values_of_any_kind(self):
-        for function, parameter, others in OPEN_PARAMETERS:
+        for function, parameter, _ in OPEN_PARAMETERS:
             for value in mutable_values():
                 before = copy.deepcopy(value)
                 with self.subTest(function.__name__, value=before):
                     try:
-                        function(**others, **{parameter: value})
-                    except (NoDeclaration, NoScope):
+                        function(**arguments_with(function, parameter, value))
+                    except RenameError:
                         pass
                     self.assertEqual(value, before)
 
 
 class ErrorsTest(unittest.TestCase):
     def test_no_other_errors_for_values_of_any_kind(self):
-        expected = {"declaration": NoDeclaration, "scope": NoScope}
-        for function, parameter, others in OPEN_PARAMETERS:
+        for function, parameter, error in OPEN_PARAMETERS:
             for value in any_values():
+                arguments = arguments_with(function, parameter, value)
                 with self.subTest(function.__name__, parameter=parameter, kind=type(value)):
-                    if parameter in expected:
-                        with self.assertRaises(expected[parameter]) as context:
-                            function(**others, **{parameter: value})
-                        self.assertIs(type(context.exception), expected[parameter])
-                        self.assertIs(vars(context.exception)[parameter], value)
-                    else:
-                        self.assertIn(function(**others, **{parameter: value}), (False, None))
+                    if error is None:
+                        self.assertIn(function(**arguments), (False, None))
+                        continue
+                    with self.assertRaises(RenameError) as context:
+                        function(**arguments)
+                    self.assertIs(type(context.exception), error[0])
+                    self.assertEqual(list(vars(context.exception)), [error[1]])
+                    self.assertIs(vars(context.exception)[error[1]], value)
+
+    def test_every_number_is_tried(self):
+        numbers = ("declaration", "scope", "one", "other")
+        found = [(function, name) for function, arguments, _ in CALLS for name in arguments if name in numbers]
+        self.assertEqual([row[:2] for row in OPEN_PARAMETERS if row[1] in numbers], found)
 
     def test_no_scope_comes_before_a_name_of_any_kind(self):
         for scope, name in itertools.product(any_values(), any_values()):
@@ -126,7 +160,7 @@ class ErrorsTest(unittest.TestCase):
 
 
 class LimitsTest(unittest.TestCase):
-    def test_functions_raise_nothing_somewhat_beyond_the_limits(self):
+    def test_programs_and_names_raise_nothing_somewhat_beyond_the_limits(self):
         program = tuple((scope - 1, 2, (0,)) for scope in range(50))
         naming = ("abcdefghi",) * 100
         self.assertIs(programs.is_program(program), False)
@@ -138,6 +172,17 @@ class LimitsTest(unittest.TestCase):
         self.assertIs(names.is_naming(program, naming), False)
         self.assertIs(names.is_naming(program, ("a",) * 100), True)
         self.assertIsNone(names.look_up(program, naming, 49, "a"))
+
+    def test_the_fewest_names_raise_nothing_somewhat_beyond_the_limits(self):
+        program = tuple((scope - 1, 2, (0,)) for scope in range(50))
+        self.assertEqual(len(validity.find_problems(program, ("a",) * 100)), 50 + 49)
+        self.assertEqual(regions.region_of(program, 0), tuple(range(50)))
+        self.assertEqual(regions.needed_in(program, 49), (0, 98, 99))
+        self.assertEqual(len(regions.all_conflicts(program)), 50 + 49 * 2)
+        self.assertEqual((regions.width_of(program), regions.widest_scope(program)), (3, 1))
+        naming = fewest.smallest_naming(program, HUNDRED)
+        self.assertEqual(naming, ("aa", "ab") + ("ab", "ac") * 49)
+        self.assertIs(fewest.shows_fewest(program, naming, 49), True)
 
 
 if __name__ == "__main__":

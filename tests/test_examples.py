@@ -10,7 +10,7 @@ from renamesteps import errors
 DOCUMENT = pathlib.Path(__file__).resolve().parents[2] / "shared" / "DOC.md"
 README = pathlib.Path(__file__).resolve().parents[1] / "README.md"
 # The examples of the modules that exist so far.
-LAST_EXAMPLE = 6
+LAST_EXAMPLE = 14
 
 EXAMPLES = {
     "e01": '''
@@ -49,6 +49,54 @@ EXAMPLES = {
     >>> naming = ("a", "b", "b", "a")
     >>> [look_up(program, naming, 1, "b"), look_up(program, naming, 1, "a"), look_up(program, naming, 2, "b"), look_up(program, naming, 2, "c")]
     [2, 0, 1, None]
+''',
+    "e07": '''
+    >>> from renamesteps.validity import find_problems
+    >>> program = ((-1, 2, (1,)), (0, 1, (0, 2)), (0, 1, (3,)))
+    >>> find_problems(program, ("a", "a", "a", "a"))
+    (('duplicate', 0, 0, 1), ('captured', 0, 1, 0), ('captured', 1, 0, 2))
+''',
+    "e08": '''
+    >>> from renamesteps.validity import is_valid
+    >>> program = ((-1, 2, (1,)), (0, 1, (0, 2)), (0, 1, (3,)))
+    >>> [is_valid(program, ("a", "b", "b", "a")), is_valid(program, ("a", "b", "a", "a"))]
+    [True, False]
+''',
+    "e09": '''
+    >>> from renamesteps.regions import needed_in, region_of
+    >>> program = ((-1, 2, (1,)), (0, 1, (0, 2)), (0, 1, (3,)))
+    >>> [region_of(program, 0), region_of(program, 1), needed_in(program, 1), needed_in(program, 2)]
+    [(0, 1), (0,), (0, 2), (3,)]
+''',
+    "e10": '''
+    >>> from renamesteps.regions import all_conflicts, conflicts_of, in_conflict
+    >>> program = ((-1, 2, (1,)), (0, 1, (0, 2)), (0, 1, (3,)))
+    >>> [in_conflict(program, 1, 2), conflicts_of(program, 0), all_conflicts(program)]
+    [False, (1, 2), ((0, 1), (0, 2))]
+''',
+    "e11": '''
+    >>> from renamesteps.regions import widest_scope, width_of
+    >>> program = ((-1, 2, (1,)), (0, 1, (0, 2)), (0, 1, (3,)))
+    >>> [width_of(program), widest_scope(program)]
+    [2, 0]
+''',
+    "e12": '''
+    >>> from renamesteps.fewest import smallest_naming
+    >>> program = ((-1, 2, (1,)), (0, 1, (0, 2)), (0, 1, (3,)))
+    >>> smallest_naming(program, ("x", "y", "z"))
+    ('x', 'y', 'y', 'x')
+''',
+    "e13": '''
+    >>> from renamesteps.fewest import smallest_naming
+    >>> program = ((-1, 2, (1,)), (0, 1, (0, 2)), (0, 1, (3,)))
+    >>> smallest_naming(program, ("x",))
+    raises TooFewNames(2)
+''',
+    "e14": '''
+    >>> from renamesteps.fewest import shows_fewest
+    >>> program = ((-1, 2, (1,)), (0, 1, (0, 2)), (0, 1, (3,)))
+    >>> [shows_fewest(program, ("x", "y", "y", "x"), 1), shows_fewest(program, ("x", "y", "y", "x"), 2)]
+    [True, False]
 ''',
 }
 

@@ -5,10 +5,9 @@ import unittest
 
 from renamesteps.errors import NoScope
 from renamesteps.names import is_name, is_naming, is_pool, look_up
-from tests.samples import BARE, BARE_CHAIN, CHAIN, CROWDED, EXAMPLE, GAPS, PROGRAMS, any_values, wrong_numbers
-
-LETTERS = "abcdefghijklmnopqrstuvwxyz"
-HUNDRED = tuple(LETTERS[at // 26] + LETTERS[at % 26] for at in range(100))
+from tests import definitions
+from tests.samples import (
+    BARE, BARE_CHAIN, CHAIN, CROWDED, EXAMPLE, GAPS, HUNDRED, LETTERS, PROGRAMS, any_values, wrong_numbers)
 
 
 class IsNameTest(unittest.TestCase):
@@ -115,15 +114,6 @@ class IsNamingTest(unittest.TestCase):
                     self.assertIs(is_naming(program, value), False)
 
 
-def find_by_definition(program, naming, scope, name):
-    """What looking up a name finds, straight from the definition."""
-    homes = [at for at, row in enumerate(program) for _ in range(row[1])]
-    found = [number for number, home in enumerate(homes) if home == scope and naming[number] == name]
-    if found:
-        return min(found)
-    return None if scope == 0 else find_by_definition(program, naming, program[scope][0], name)
-
-
 class LookUpTest(unittest.TestCase):
     def test_a_name_that_an_inner_scope_hides(self):
         self.assertEqual([look_up(CHAIN, ("a",) * 40, scope, "a") for scope in range(40)], list(range(40)))
@@ -186,7 +176,7 @@ class LookUpTest(unittest.TestCase):
                 naming = tuple(source.choice("abcd") for row in program for _ in range(row[1]))
                 for scope in range(len(program)):
                     for name in "abcde":
-                        expected = find_by_definition(program, naming, scope, name)
+                        expected = definitions.looked_up(program, naming, scope, name)
                         self.assertEqual(look_up(program, naming, scope, name), expected)
 
 

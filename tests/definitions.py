@@ -1,0 +1,81 @@
+"""What the document defines, computed straight from its words and without the package."""
+
+import functools
+import itertools
+
+
+@functools.lru_cache(maxsize=1000)
+def homes(program):
+    return tuple(scope for scope, row in enumerate(program) for _ in range(row[1]))
+
+
+def count(program):
+    """The number of declarations."""
+    return sum(row[1] for row in program)
+
+
+@functools.lru_cache(maxsize=1000)
+def enclosing(program):
+    """For each scope, the set of the scopes that enclose it."""
+    found = []
+    for scope, row in enumerate(program):
+        found.append({scope} | (found[row[0]] if scope else set()))
+    return found
+
+
+def looked_up(program, naming, scope, name):
+    found = [number for number, home in enumerate(homes(program)) if home == scope and naming[number] == name]
+    if found:
+        return min(found)
+    return None if scope == 0 else looked_up(program, naming, program[scope][0], name)
+
+
+def problems(program, naming):
+    found = []
+    for scope, (_, _, uses) in enumerate(program):
+        own = [number for number, home in enumerate(homes(program)) if home == scope]
+        for first, second in itertools.combinations(own, 2):
+            if naming[first] == naming[second]:
+                found.append(("duplicate", scope, first, second))
+        for use in uses:
+            other = looked_up(program, naming, scope, naming[use])
+            if other != use:
+                found.append(("captured", scope, use, other))
+    return tuple(found)
+
+
+def valid(program, naming):
+    return problems(program, naming) == ()
+
+
+def region(program, declaration):
+    home = homes(program)[declaration]
+    around = enclosing(program)
+    users = [scope for scope, row in enumerate(program) if declaration in row[2]]
+    return {home} | {
+        scope for scope in range(len(program))
+        if home in around[scope] and any(scope in around[user] for user in users)}
+
+
+@functools.lru_cache(maxsize=1000)
+def regions(program):
+    return tuple(region(program, number) for number in range(len(homes(program))))
+
+
+def needed(program, scope):
+    return tuple(number for number, found in enumerate(regions(program)) if scope in found)
+
+
+def loads(program):
+    return [len(needed(program, scope)) for scope in range(len(program))]
+
+
+def width(program):
+    return max(loads(program))
+
+
+@functools.lru_cache(maxsize=1000)
+def conflicts(program):
+    """The set of all pairs of conflicting declarations, each pair in both orders."""
+    found = regions(program)
+    return {(one, other) for one, other in itertools.permutations(range(len(found)), 2) if found[one] & found[other]}
