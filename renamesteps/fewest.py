@@ -29,6 +29,13 @@ def smallest_naming(program, pool):
     return tuple([pool[number] for number in smallest_numbers(program)])
 
 
+def check_room(program, pool):
+    """Raises TooFewNames if the pool has no more names than the width."""
+    needed = width_of(program) + 1
+    if len(pool) < needed:
+        raise TooFewNames(needed)
+
+
 def shows_fewest(program, naming, scope):
     """Whether the naming is valid and has exactly as many different names as the load of the scope."""
     load = len(needed_in(program, scope))

@@ -1,5 +1,7 @@
 """Which namings are valid, and the reasons why others are not."""
 
+from renamesteps.errors import BadNaming
+from renamesteps.names import is_naming
 from renamesteps.programs import PARENT, USES, declarations_of
 
 
@@ -16,6 +18,12 @@ def find_problems(program, naming):
 def is_valid(program, naming):
     """Whether the naming is valid."""
     return find_problems(program, naming) == ()
+
+
+def check_naming(program, naming, pool):
+    """Raises BadNaming if any value is not a valid naming whose names are all in the pool."""
+    if not is_naming(program, naming) or not all([name in pool for name in naming]) or not is_valid(program, naming):
+        raise BadNaming(naming)
 
 
 def found_everywhere(program, naming):

@@ -79,3 +79,43 @@ def conflicts(program):
     """The set of all pairs of conflicting declarations, each pair in both orders."""
     found = regions(program)
     return {(one, other) for one, other in itertools.permutations(range(len(found)), 2) if found[one] & found[other]}
+
+
+def height(program):
+    return max(len(found) for found in enclosing(program))
+
+
+def renamed(naming, declaration, name):
+    return naming[:declaration] + (name,) + naming[declaration + 1:]
+
+
+def safe(program, naming, declaration, name):
+    return naming[declaration] != name and valid(program, renamed(naming, declaration, name))
+
+
+def valid_namings(program, pool):
+    """All valid namings with names of the pool."""
+    return [naming for naming in itertools.product(pool, repeat=count(program)) if valid(program, naming)]
+
+
+def full(program, many):
+    """The full scopes for a pool of so many names."""
+    return tuple(scope for scope, load in enumerate(loads(program)) if load == many)
+
+
+def frozen(program, many):
+    return tuple(sorted({number for scope in full(program, many) for number in needed(program, scope)}))
+
+
+def parts(program, many):
+    """The parts, joined from single declarations, one pair of conflicting ones after the other."""
+    found = [{number} for number in range(count(program)) if number not in frozen(program, many)]
+    for pair in conflicts(program):
+        touched = [part for part in found if part & set(pair)]
+        if len(touched) == 2:
+            found = [part for part in found if part not in touched] + [touched[0] | touched[1]]
+    return tuple(sorted(tuple(sorted(part)) for part in found))
+
+
+def free(program, part, many):
+    return not any((number, other) in conflicts(program) for number in part for other in frozen(program, many))

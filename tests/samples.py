@@ -130,7 +130,7 @@ def nested(wrap, levels=30):
 
 
 def any_values():
-    """Values of many kinds, made anew for each call, that are no program, scope, name, pool, naming or number.
+    """Values of many kinds, made anew for each call, that are no program, scope, name, pool, naming, number or rename.
 
     Integers and the empty tuple are left out, because they are right in some places.
     """
@@ -139,7 +139,7 @@ def any_values():
         "", "A", "1", "a1", "0", " ", "a b", "a\n", "abcdefghi", "\u00e4", "\ud800",
         b"", b"a", bytearray(b"a"), [], [0], ["a"], [EXAMPLE], [[-1, 0, []]], {}, {"a": 1}, {0: "a"},
         set(), {0}, {"a"}, frozenset(), frozenset({0}), range(3), slice(0, 1),
-        (None,), (True,), ([],), ({},), ({0},), ((),), (((),),), ("a", "a"), ("a", 0), ("a", ["b"]), (0, 0), (0, "a"),
+        (None,), (True,), ([],), ({},), ({0},), ((),), (((),),), ("a", "a"), ("a", 0), ("a", ["b"]), (0, 0), (0, "A"),
         (5, 0, ()), ((-1, 0, []),), ([-1, 0, ()],), ((-1, 0, (Unfriendly(),)),), (Unfriendly(),), (Agreeable(),),
         ((Unfriendly(), Unfriendly(), Unfriendly()),), ((Agreeable(), Agreeable(), Agreeable()),),
         nested(lambda value: [value]), nested(lambda value: (value,)), nested(lambda value: {"a": value}),

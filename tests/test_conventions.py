@@ -5,13 +5,16 @@ import inspect
 import itertools
 import unittest
 
-from renamesteps import fewest, names, programs, regions, validity
-from renamesteps.errors import NoDeclaration, NoScope, RenameError
+from renamesteps import fewest, groups, names, parts, plans, programs, regions, renames, validity
+from renamesteps.errors import BadName, BadNaming, BadPlan, NoDeclaration, NoScope, RenameError
 from tests.samples import EXAMPLE, HUNDRED, any_values
 
 NAMING = ("a", "b", "b", "a")
+GOAL = ("a", "c", "c", "a")
+POOL = ("a", "b", "c")
 
 # Each function with its parameters in the order of the document, arguments, and what it returns.
+# Where the document allows several results, it is the one that this package returns.
 CALLS = (
     (programs.is_program, {"value": EXAMPLE}, True),
     (programs.home_of, {"program": EXAMPLE, "declaration": 2}, 1),
@@ -34,12 +37,30 @@ CALLS = (
     (regions.widest_scope, {"program": EXAMPLE}, 0),
     (fewest.smallest_naming, {"program": EXAMPLE, "pool": ("c", "a", "b")}, ("c", "a", "a", "c")),
     (fewest.shows_fewest, {"program": EXAMPLE, "naming": NAMING, "scope": 1}, True),
+    (renames.blockers, {"program": EXAMPLE, "naming": NAMING, "declaration": 0, "name": "b"}, (1, 2)),
+    (renames.free_names, {"program": EXAMPLE, "naming": NAMING, "declaration": 3, "pool": POOL}, ("b", "c")),
+    (renames.rename, {"program": EXAMPLE, "naming": NAMING, "declaration": 3, "name": "c"}, ("a", "b", "b", "c")),
+    (renames.all_renames, {"program": EXAMPLE, "naming": NAMING, "pool": ("a", "b")}, ((3, "b"),)),
+    (groups.groups_of, {"program": EXAMPLE}, ((0, 3), (1, 2))),
+    (groups.shows_groups, {"program": EXAMPLE, "value": ((0, 3), (1, 2))}, True),
+    (groups.gather, {"program": EXAMPLE, "naming": ("a", "b", "c", "b"), "pool": POOL}, ((3, "a"), (2, "b"))),
+    (plans.run_plan, {"program": EXAMPLE, "naming": NAMING, "plan": ((3, "b"),)}, ("a", "b", "b", "b")),
+    (plans.shows_plan,
+     {"program": EXAMPLE, "start": NAMING, "goal": GOAL, "pool": POOL, "value": ((1, "c"), (2, "c"))}, True),
+    (plans.find_plan, {"program": EXAMPLE, "start": NAMING, "goal": GOAL, "pool": POOL}, ((1, "c"), (2, "c"))),
+    (plans.plan_to_name,
+     {"program": EXAMPLE, "naming": NAMING, "declaration": 0, "name": "c", "pool": POOL}, ((0, "c"),)),
+    (parts.full_scopes, {"program": EXAMPLE, "pool": ("a", "b")}, (0, 1)),
+    (parts.frozen_declarations, {"program": EXAMPLE, "pool": ("a", "b")}, (0, 1, 2)),
+    (parts.parts_of, {"program": EXAMPLE, "pool": POOL}, ((0, 1, 2), (3,))),
+    (parts.is_free, {"program": EXAMPLE, "part": (3,), "pool": ("a", "b")}, True),
 )
 
 # Functions and their parameters that accept any value, with the error for what is wrong there and its field.
 # Functions without an error return False or None.
 NO_DECLARATION = (NoDeclaration, "declaration")
 NO_SCOPE = (NoScope, "scope")
+BAD_NAMING = (BadNaming, "naming")
 OPEN_PARAMETERS = (
     (programs.is_program, "value", None),
     (programs.home_of, "declaration", NO_DECLARATION),
@@ -57,6 +78,19 @@ OPEN_PARAMETERS = (
     (regions.in_conflict, "other", NO_DECLARATION),
     (regions.conflicts_of, "declaration", NO_DECLARATION),
     (fewest.shows_fewest, "scope", NO_SCOPE),
+    (renames.blockers, "declaration", NO_DECLARATION),
+    (renames.free_names, "declaration", NO_DECLARATION),
+    (renames.rename, "declaration", NO_DECLARATION),
+    (renames.rename, "name", (BadName, "name")),
+    (groups.shows_groups, "value", None),
+    (groups.gather, "naming", BAD_NAMING),
+    (plans.run_plan, "plan", (BadPlan, "plan")),
+    (plans.shows_plan, "value", None),
+    (plans.find_plan, "start", BAD_NAMING),
+    (plans.find_plan, "goal", BAD_NAMING),
+    (plans.plan_to_name, "naming", BAD_NAMING),
+    (plans.plan_to_name, "declaration", NO_DECLARATION),
+    (plans.plan_to_name, "name", (BadName, "name")),
 )
 
 
@@ -183,6 +217,20 @@ class LimitsTest(unittest.TestCase):
         naming = fewest.smallest_naming(program, HUNDRED)
         self.assertEqual(naming, ("aa", "ab") + ("ab", "ac") * 49)
         self.assertIs(fewest.shows_fewest(program, naming, 49), True)
+
+    def test_plans_raise_nothing_somewhat_beyond_the_limits(self):
+        program = tuple((scope - 1, 2, (0,)) for scope in range(50))
+        naming = ("aa", "ab") + ("ab", "ac") * 49
+        goal = ("ac", "aa") + ("aa", "ab") * 49
+        self.assertEqual(len(renames.all_renames(program, naming, HUNDRED)), 100 * 97 + 1)
+        self.assertIs(groups.shows_groups(program, groups.groups_of(program)), True)
+        for pool in (HUNDRED[:4], HUNDRED):
+            plan = plans.find_plan(program, naming, goal, pool)
+            self.assertEqual(plans.run_plan(program, naming, plan), goal)
+            last = plans.run_plan(program, naming, plans.plan_to_name(program, naming, 99, "aa", pool))
+            self.assertEqual(last[99], "aa")
+        self.assertEqual(parts.full_scopes(program, HUNDRED[:3]), tuple(range(1, 50)))
+        self.assertEqual(parts.parts_of(program, HUNDRED[:3]), ((1,),))
 
 
 if __name__ == "__main__":

@@ -10,7 +10,7 @@ from renamesteps import errors
 DOCUMENT = pathlib.Path(__file__).resolve().parents[2] / "shared" / "DOC.md"
 README = pathlib.Path(__file__).resolve().parents[1] / "README.md"
 # The examples of the modules that exist so far.
-LAST_EXAMPLE = 14
+LAST_EXAMPLE = 29
 
 EXAMPLES = {
     "e01": '''
@@ -97,6 +97,116 @@ EXAMPLES = {
     >>> program = ((-1, 2, (1,)), (0, 1, (0, 2)), (0, 1, (3,)))
     >>> [shows_fewest(program, ("x", "y", "y", "x"), 1), shows_fewest(program, ("x", "y", "y", "x"), 2)]
     [True, False]
+''',
+    "e15": '''
+    >>> from renamesteps.renames import blockers, free_names
+    >>> program = ((-1, 2, (1,)), (0, 1, (0, 2)), (0, 1, (3,)))
+    >>> naming = ("a", "b", "b", "a")
+    >>> [blockers(program, naming, 0, "b"), free_names(program, naming, 0, ("a", "b", "c")), free_names(program, naming, 3, ("a", "b", "c"))]
+    [(1, 2), ('c',), ('b', 'c')]
+''',
+    "e16": '''
+    >>> from renamesteps.renames import rename
+    >>> program = ((-1, 2, (1,)), (0, 1, (0, 2)), (0, 1, (3,)))
+    >>> naming = ("a", "b", "b", "a")
+    >>> rename(program, naming, 3, "c")
+    ('a', 'b', 'b', 'c')
+''',
+    "e17": '''
+    >>> from renamesteps.renames import rename
+    >>> program = ((-1, 2, (1,)), (0, 1, (0, 2)), (0, 1, (3,)))
+    >>> naming = ("a", "b", "b", "a")
+    >>> rename(program, naming, 0, "b")
+    raises Clash(1)
+''',
+    "e18": '''
+    >>> from renamesteps.renames import all_renames
+    >>> program = ((-1, 2, (1,)), (0, 1, (0, 2)), (0, 1, (3,)))
+    >>> naming = ("a", "b", "b", "a")
+    >>> all_renames(program, naming, ("a", "b"))
+    ((3, 'b'),)
+''',
+    "e19": '''
+    >>> from renamesteps.groups import groups_of, shows_groups
+    >>> program = ((-1, 2, (1,)), (0, 1, (0, 2)), (0, 1, (3,)))
+    >>> [shows_groups(program, groups_of(program)), shows_groups(program, ((0, 3), (1, 2))), shows_groups(program, ((0,), (1, 2), (3,))), shows_groups(program, ((0, 1), (2, 3)))]
+    [True, True, False, False]
+''',
+    "e20": '''
+    >>> from renamesteps.groups import gather
+    >>> from renamesteps.plans import run_plan
+    >>> program = ((-1, 2, (1,)), (0, 1, (0, 2)), (0, 1, (3,)))
+    >>> naming = ("a", "b", "c", "b")
+    >>> plan = gather(program, naming, ("a", "b", "c"))
+    >>> [len(set(run_plan(program, naming, plan))), len(plan) <= 8]
+    [2, True]
+''',
+    "e21": '''
+    >>> from renamesteps.plans import run_plan
+    >>> program = ((-1, 2, (1,)), (0, 1, (0, 2)), (0, 1, (3,)))
+    >>> naming = ("a", "b", "b", "a")
+    >>> run_plan(program, naming, ((3, "c"), (0, "c")))
+    ('c', 'b', 'b', 'c')
+''',
+    "e22": '''
+    >>> from renamesteps.plans import run_plan
+    >>> program = ((-1, 2, (1,)), (0, 1, (0, 2)), (0, 1, (3,)))
+    >>> naming = ("a", "b", "b", "a")
+    >>> run_plan(program, naming, ((3, "b"), (0, "b")))
+    raises Unsafe(1)
+''',
+    "e23": '''
+    >>> from renamesteps.plans import shows_plan
+    >>> program = ((-1, 2, (1,)), (0, 1, (0, 2)), (0, 1, (3,)))
+    >>> naming = ("a", "b", "b", "a")
+    >>> goal = ("c", "b", "b", "c")
+    >>> plan = ((3, "c"), (0, "c"))
+    >>> [shows_plan(program, naming, goal, ("a", "b", "c"), plan), shows_plan(program, naming, naming, ("a", "b", "c"), plan), shows_plan(program, naming, goal, ("a", "b", "c"), None)]
+    [True, False, False]
+''',
+    "e24": '''
+    >>> from renamesteps.plans import find_plan, shows_plan
+    >>> program = ((-1, 2, (1,)), (0, 1, (0, 2)), (0, 1, (3,)))
+    >>> naming = ("a", "b", "b", "a")
+    >>> goal = ("b", "a", "a", "b")
+    >>> pool = ("a", "b", "c")
+    >>> plan = find_plan(program, naming, goal, pool)
+    >>> [shows_plan(program, naming, goal, pool, plan), len(plan) <= 32]
+    [True, True]
+''',
+    "e25": '''
+    >>> from renamesteps.plans import find_plan
+    >>> program = ((-1, 2, (1,)), (0, 1, (0, 2)), (0, 1, (3,)))
+    >>> naming = ("a", "b", "b", "a")
+    >>> find_plan(program, naming, ("b", "a", "a", "b"), ("a", "b"))
+    raises TooFewNames(3)
+''',
+    "e26": '''
+    >>> from renamesteps.plans import plan_to_name, run_plan
+    >>> program = ((-1, 2, (1,)), (0, 1, (0, 2)), (0, 1, (3,)))
+    >>> naming = ("a", "b", "b", "a")
+    >>> plan = plan_to_name(program, naming, 0, "b", ("a", "b", "c"))
+    >>> run_plan(program, naming, plan)[0]
+    'b'
+''',
+    "e27": '''
+    >>> from renamesteps.parts import frozen_declarations, full_scopes
+    >>> program = ((-1, 2, (1,)), (0, 1, (0, 2)), (0, 1, (3,)))
+    >>> [full_scopes(program, ("a", "b")), frozen_declarations(program, ("a", "b")), frozen_declarations(program, ("a", "b", "c"))]
+    [(0, 1), (0, 1, 2), ()]
+''',
+    "e28": '''
+    >>> from renamesteps.parts import is_free, parts_of
+    >>> program = ((-1, 2, (1,)), (0, 1, (0, 2)), (0, 1, (3,)))
+    >>> [parts_of(program, ("a", "b")), parts_of(program, ("a", "b", "c")), is_free(program, (3,), ("a", "b"))]
+    [((3,),), ((0, 1, 2), (3,)), True]
+''',
+    "e29": '''
+    >>> from renamesteps.parts import frozen_declarations, is_free, parts_of
+    >>> program = ((-1, 2, ()), (0, 1, (0,)), (1, 2, (2,)), (0, 1, (1,)), (3, 2, (5,)))
+    >>> pool = ("a", "b", "c")
+    >>> [frozen_declarations(program, pool), parts_of(program, pool), is_free(program, (0, 1), pool)]
+    [(2, 3, 4, 5, 6, 7), ((0, 1),), False]
 ''',
 }
 
