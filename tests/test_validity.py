@@ -3,13 +3,14 @@
 import random
 import unittest
 
+from renamesteps.errors import BadNaming
 from renamesteps.names import look_up
-from renamesteps.validity import find_problems, is_valid
+from renamesteps.validity import check_naming, find_problems, is_valid
 from tests import definitions
 from tests.definitions import count
 from tests.samples import (
     BARE, BARE_CHAIN, BESIDE, CHAIN, CROWDED, EXAMPLE, FAR, FUNNEL, GAPS, HUNDRED, LARGEST, LINKS, PROGRAMS, SINGLE,
-    random_programs, random_valid_naming)
+    any_values, random_programs, random_valid_naming)
 
 
 class ProblemsTest(unittest.TestCase):
@@ -118,6 +119,22 @@ class AgreementTest(unittest.TestCase):
             for kind, scope, declaration, found in find_problems(program, naming):
                 if kind == "captured":
                     self.assertEqual(look_up(program, naming, scope, naming[declaration]), found)
+
+
+class CheckNamingTest(unittest.TestCase):
+    """The check that gather and the functions of plans share: without it, some of them would not come to an end."""
+
+    def test_valid_namings_with_names_of_the_pool(self):
+        self.assertIsNone(check_naming(EXAMPLE, ("a", "b", "b", "a"), ("b", "a")))
+        self.assertIsNone(check_naming(BARE, (), ()))
+
+    def test_bad_naming(self):
+        wrong = [
+            ("a", "a", "b", "b"), ("a", "b", "a", "a"), ("a", "b", "b", "c"), ("a", "b", "b"), ["a", "b", "b", "a"]]
+        for value in wrong + any_values():
+            with self.subTest(kind=type(value)), self.assertRaises(BadNaming) as context:
+                check_naming(EXAMPLE, value, ("a", "b"))
+            self.assertIs(context.exception.naming, value)
 
 
 if __name__ == "__main__":
