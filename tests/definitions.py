@@ -119,3 +119,27 @@ def parts(program, many):
 
 def free(program, part, many):
     return not any((number, other) in conflicts(program) for number in part for other in frozen(program, many))
+
+
+def named(naming, part):
+    """The naming of the part."""
+    return tuple(naming[number] for number in part)
+
+
+def distances(program, naming, numbers, pool):
+    """For each naming that renames of these declarations can lead to, the fewest renames that do, by trying them all."""
+    found = {naming: 0}
+    newest = [naming]
+    while newest:
+        later = [
+            renamed(old, number, name) for old in newest for number in numbers for name in pool
+            if safe(program, old, number, name)]
+        steps = found[newest[0]] + 1
+        newest = [new for new in dict.fromkeys(later) if new not in found]
+        found.update((new, steps) for new in newest)
+    return found
+
+
+def reachable(program, naming, part, pool):
+    """The ascending tuple of the reachable namings of the part."""
+    return tuple(sorted(named(found, part) for found in distances(program, naming, part, pool)))

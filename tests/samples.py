@@ -28,6 +28,12 @@ LINKS = ((-1, 1, ()),) + tuple((scope - 1, 1, (scope - 1,)) for scope in range(1
 
 PROGRAMS = (EXAMPLE, SINGLE, BARE, CHAIN, BESIDE, BARE_CHAIN, CROWDED, GAPS, LARGEST, FAR, FUNNEL, LINKS)
 
+# Namings of EXAMPLE that are not valid, or have names that are not a, b or c, and values that are no namings of it.
+WRONG_NAMINGS = (
+    (), ("a",), ("a", "b", "b"), ("a", "b", "b", "a", "a"), ["a", "b", "b", "a"], ("a", "b", "b", "d"),
+    ("a", "a", "b", "b"), ("a", "b", "a", "b"), ("a", "b", "b", "A"), ("a", "b", "b", None), ("a", "b", "b", ["a"]),
+    "abba", 0, -1)
+
 LETTERS = "abcdefghijklmnopqrstuvwxyz"
 HUNDRED = tuple(LETTERS[at // 26] + LETTERS[at % 26] for at in range(100))
 
@@ -83,14 +89,26 @@ def random_programs(seed, many, scopes=40, declarations=60):
             declarations if largest else source.randrange(declarations + 1), source.choice((2, 5, 15, 40)))
 
 
-def random_valid_naming(source, program, pool):
-    """A valid naming with names of the pool, which has at least as many as the width."""
+def random_valid_naming(source, program, pool, first=()):
+    """A valid naming with names of the pool, which has at least as many as the width, that begins with these names."""
     conflicts = definitions.conflicts(program)
-    naming = []
-    for number in range(len(definitions.homes(program))):
+    naming = list(first)
+    for number in range(len(first), len(definitions.homes(program))):
         taken = {naming[other] for other in range(number) if (other, number) in conflicts}
         naming.append(source.choice([name for name in pool if name not in taken]))
     return tuple(naming)
+
+
+def beside(*programs):
+    """The program that has the scopes 0 of these programs directly inside its own scope 0."""
+    rows = [(-1, 0, ())]
+    declarations = 0
+    for program in programs:
+        first = len(rows)
+        for parent, count, uses in program:
+            rows.append((0 if parent < 0 else parent + first, count, tuple(use + declarations for use in uses)))
+        declarations += definitions.count(program)
+    return tuple(rows)
 
 
 class Unfriendly:

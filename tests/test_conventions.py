@@ -5,8 +5,9 @@ import inspect
 import itertools
 import unittest
 
-from renamesteps import fewest, groups, names, parts, plans, programs, regions, renames, validity
-from renamesteps.errors import BadName, BadNaming, BadPlan, NoDeclaration, NoScope, RenameError
+from renamesteps import (
+    edits, fewest, groups, names, parts, plans, programs, regions, renames, routes, shortest, validity)
+from renamesteps.errors import BadName, BadNaming, BadPlan, NoDeclaration, NoScope, RenameError, TooLarge
 from tests.samples import EXAMPLE, HUNDRED, any_values
 
 NAMING = ("a", "b", "b", "a")
@@ -54,7 +55,28 @@ CALLS = (
     (parts.frozen_declarations, {"program": EXAMPLE, "pool": ("a", "b")}, (0, 1, 2)),
     (parts.parts_of, {"program": EXAMPLE, "pool": POOL}, ((0, 1, 2), (3,))),
     (parts.is_free, {"program": EXAMPLE, "part": (3,), "pool": ("a", "b")}, True),
+    (routes.reachable_namings,
+     {"program": EXAMPLE, "naming": NAMING, "part": (3,), "pool": ("b", "a"), "most": 2}, (("a",), ("b",))),
+    (routes.find_route,
+     {"program": EXAMPLE, "start": NAMING, "goal": GOAL, "pool": POOL, "most": 1}, ("plan", ((1, "c"), (2, "c")))),
+    (routes.shows_route,
+     {"program": EXAMPLE, "start": NAMING, "goal": ("b", "a", "a", "a"), "pool": ("a", "b"),
+      "value": ("frozen", 0, 1)}, True),
+    (shortest.fewest_renames, {"program": EXAMPLE, "start": NAMING, "goal": GOAL, "pool": POOL, "most": 12}, 2),
+    (shortest.shortest_plan,
+     {"program": EXAMPLE, "start": NAMING, "goal": GOAL, "pool": POOL, "most": 12}, ((1, "c"), (2, "c"))),
+    (edits.add_use, {"program": EXAMPLE, "declaration": 1, "scope": 2}, EXAMPLE[:2] + ((0, 1, (1, 3)),)),
+    (edits.remove_use, {"program": EXAMPLE, "declaration": 3, "scope": 2}, EXAMPLE[:2] + ((0, 1, ()),)),
+    (edits.add_declaration, {"program": EXAMPLE, "scope": 2}, EXAMPLE[:2] + ((0, 2, (3,)),)),
+    (edits.remove_declaration, {"program": ((-1, 2, (1,)),), "declaration": 0}, ((-1, 1, (0,)),)),
+    (edits.add_scope, {"program": EXAMPLE, "scope": 0}, EXAMPLE + ((0, 0, ()),)),
+    (edits.remove_scope, {"program": EXAMPLE + ((0, 0, ()),), "scope": 3}, EXAMPLE),
+    (edits.plan_for_use,
+     {"program": EXAMPLE, "naming": NAMING, "declaration": 1, "scope": 1, "pool": POOL}, ((1, "c"),)),
 )
+
+# The parameters that are passed by keyword, with their defaults.
+BY_KEYWORD = {"most": 2000}
 
 # Functions and their parameters that accept any value, with the error for what is wrong there and its field.
 # Functions without an error return False or None.
@@ -91,6 +113,24 @@ OPEN_PARAMETERS = (
     (plans.plan_to_name, "naming", BAD_NAMING),
     (plans.plan_to_name, "declaration", NO_DECLARATION),
     (plans.plan_to_name, "name", (BadName, "name")),
+    (routes.find_route, "start", BAD_NAMING),
+    (routes.find_route, "goal", BAD_NAMING),
+    (routes.shows_route, "value", None),
+    (shortest.fewest_renames, "start", BAD_NAMING),
+    (shortest.fewest_renames, "goal", BAD_NAMING),
+    (shortest.shortest_plan, "start", BAD_NAMING),
+    (shortest.shortest_plan, "goal", BAD_NAMING),
+    (edits.add_use, "declaration", NO_DECLARATION),
+    (edits.add_use, "scope", NO_SCOPE),
+    (edits.remove_use, "declaration", NO_DECLARATION),
+    (edits.remove_use, "scope", NO_SCOPE),
+    (edits.add_declaration, "scope", NO_SCOPE),
+    (edits.remove_declaration, "declaration", NO_DECLARATION),
+    (edits.add_scope, "scope", NO_SCOPE),
+    (edits.remove_scope, "scope", NO_SCOPE),
+    (edits.plan_for_use, "naming", BAD_NAMING),
+    (edits.plan_for_use, "declaration", NO_DECLARATION),
+    (edits.plan_for_use, "scope", NO_SCOPE),
 )
 
 
@@ -114,8 +154,12 @@ def mutable_values():
 class ParametersTest(unittest.TestCase):
     def test_arguments_by_position(self):
         for function, arguments, result in CALLS:
+            first = [value for name, value in arguments.items() if name not in BY_KEYWORD]
+            rest = {name: value for name, value in arguments.items() if name in BY_KEYWORD}
             with self.subTest(function.__name__):
-                self.assertEqual(function(*arguments.values()), result)
+                self.assertEqual(function(*first, **rest), result)
+                if rest:
+                    self.assertRaises(TypeError, function, *arguments.values())
 
     def test_arguments_by_name_in_every_order(self):
         for function, arguments, result in CALLS:
@@ -125,7 +169,7 @@ class ParametersTest(unittest.TestCase):
 
     def test_some_arguments_by_position_and_the_rest_by_name(self):
         for function, arguments, result in CALLS:
-            for many in range(len(arguments)):
+            for many in range(len([name for name in arguments if name not in BY_KEYWORD])):
                 first = list(arguments.values())[:many]
                 rest = {name: arguments[name] for name in reversed(list(arguments)[many:])}
                 with self.subTest(function.__name__, many=many):
@@ -133,8 +177,12 @@ class ParametersTest(unittest.TestCase):
 
     def test_the_parameters_are_those_of_the_document(self):
         for function, arguments, _ in CALLS:
+            parameters = inspect.signature(function).parameters
             with self.subTest(function.__name__):
-                self.assertEqual(list(inspect.signature(function).parameters), list(arguments))
+                self.assertEqual(list(parameters), list(arguments))
+                for name, parameter in parameters.items():
+                    self.assertEqual(parameter.default, BY_KEYWORD.get(name, parameter.empty))
+                    self.assertIs(parameter.kind == parameter.KEYWORD_ONLY, name in BY_KEYWORD)
 
     def test_the_kinds_of_the_results(self):
         for function, arguments, result in CALLS:
@@ -231,6 +279,26 @@ class LimitsTest(unittest.TestCase):
             self.assertEqual(last[99], "aa")
         self.assertEqual(parts.full_scopes(program, HUNDRED[:3]), tuple(range(1, 50)))
         self.assertEqual(parts.parts_of(program, HUNDRED[:3]), ((1,),))
+
+    def test_routes_and_edits_raise_nothing_somewhat_beyond_the_limits(self):
+        program = tuple((scope - 1, 2, (0,)) for scope in range(50))
+        naming = ("aa", "ab") + ("ab", "ac") * 49
+        goal = ("aa", "ac") + ("ab", "ac") * 49
+        self.assertEqual(routes.reachable_namings(program, naming, (1,), HUNDRED[:3]), (("ab",), ("ac",)))
+        for function, result in (
+                (routes.find_route, ("plan", ((1, "ac"),))), (shortest.fewest_renames, 1),
+                (shortest.shortest_plan, ((1, "ac"),))):
+            self.assertEqual(function(program, naming, goal, HUNDRED[:3]), result)
+        self.assertIs(routes.shows_route(program, naming, goal, HUNDRED[:3], ("plan", ((1, "ac"),))), True)
+        self.assertEqual(edits.add_use(program, 97, 49)[49], (48, 2, (0, 97)))
+        self.assertEqual(edits.remove_use(program, 0, 49)[49], (48, 2, ()))
+        self.assertEqual(edits.remove_declaration(program, 99)[49], (48, 1, (0,)))
+        self.assertEqual(edits.remove_scope(program + ((49, 0, ()),), 50), program)
+        self.assertEqual(edits.plan_for_use(program, naming, 97, 49, HUNDRED[:4]), ((97, "ad"),))
+        for edit, limit in ((edits.add_declaration, 60), (edits.add_scope, 40)):
+            with self.assertRaises(TooLarge) as context:
+                edit(program, 49)
+            self.assertEqual(context.exception.limit, limit)
 
 
 if __name__ == "__main__":

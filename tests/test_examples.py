@@ -10,7 +10,7 @@ from renamesteps import errors
 DOCUMENT = pathlib.Path(__file__).resolve().parents[2] / "shared" / "DOC.md"
 README = pathlib.Path(__file__).resolve().parents[1] / "README.md"
 # The examples of the modules that exist so far.
-LAST_EXAMPLE = 29
+LAST_EXAMPLE = 43
 
 EXAMPLES = {
     "e01": '''
@@ -207,6 +207,112 @@ EXAMPLES = {
     >>> pool = ("a", "b", "c")
     >>> [frozen_declarations(program, pool), parts_of(program, pool), is_free(program, (0, 1), pool)]
     [(2, 3, 4, 5, 6, 7), ((0, 1),), False]
+''',
+    "e30": '''
+    >>> from renamesteps.routes import reachable_namings
+    >>> program = ((-1, 2, (1,)), (0, 1, (0, 2)), (0, 1, (3,)))
+    >>> naming = ("a", "b", "b", "a")
+    >>> reachable_namings(program, naming, (3,), ("a", "b"))
+    (('a',), ('b',))
+''',
+    "e31": '''
+    >>> from renamesteps.routes import reachable_namings
+    >>> program = ((-1, 2, (1,)), (0, 1, (0, 2)), (0, 1, (3,)))
+    >>> naming = ("a", "b", "b", "a")
+    >>> reachable_namings(program, naming, (3,), ("a", "b"), most=1)
+    raises TooMany(1)
+''',
+    "e32": '''
+    >>> from renamesteps.routes import find_route
+    >>> program = ((-1, 2, (1,)), (0, 1, (0, 2)), (0, 1, (3,)))
+    >>> naming = ("a", "b", "b", "a")
+    >>> [find_route(program, naming, ("b", "a", "a", "a"), ("a", "b")), find_route(program, naming, ("a", "b", "b", "b"), ("a", "b"))[0]]
+    [('frozen', 0, 0), 'plan']
+''',
+    "e33": '''
+    >>> from renamesteps.routes import find_route
+    >>> program = ((-1, 2, ()), (0, 1, (0,)), (1, 2, (2,)), (0, 1, (1,)), (3, 2, (5,)))
+    >>> start = ("a", "b", "c", "a", "b", "c", "a", "b")
+    >>> goal = ("b", "a", "c", "a", "b", "c", "a", "b")
+    >>> find_route(program, start, goal, ("a", "b", "c"))
+    ('closed', (0, 1), (('a', 'b'),))
+''',
+    "e34": '''
+    >>> from renamesteps.routes import shows_route
+    >>> program = ((-1, 2, ()), (0, 1, (0,)), (1, 2, (2,)), (0, 1, (1,)), (3, 2, (5,)))
+    >>> start = ("a", "b", "c", "a", "b", "c", "a", "b")
+    >>> goal = ("b", "a", "c", "a", "b", "c", "a", "b")
+    >>> pool = ("a", "b", "c")
+    >>> closed = (("a", "b"),)
+    >>> [shows_route(program, start, goal, pool, ("closed", (0, 1), closed)), shows_route(program, start, goal, pool, ("frozen", 2, 2)), shows_route(program, start, goal, pool, ("plan", ((0, "b"),)))]
+    [True, False, False]
+''',
+    "e35": '''
+    >>> from renamesteps.shortest import fewest_renames
+    >>> program = ((-1, 2, (1,)), (0, 1, (0, 2)), (0, 1, (3,)))
+    >>> naming = ("a", "b", "b", "a")
+    >>> goal = ("b", "a", "a", "a")
+    >>> [fewest_renames(program, naming, goal, ("a", "b", "c")), fewest_renames(program, naming, goal, ("a", "b")), fewest_renames(program, naming, naming, ("a", "b"))]
+    [4, None, 0]
+''',
+    "e36": '''
+    >>> from renamesteps.plans import shows_plan
+    >>> from renamesteps.shortest import shortest_plan
+    >>> program = ((-1, 2, (1,)), (0, 1, (0, 2)), (0, 1, (3,)))
+    >>> naming = ("a", "b", "b", "a")
+    >>> goal = ("b", "a", "a", "c")
+    >>> pool = ("a", "b", "c")
+    >>> plan = shortest_plan(program, naming, goal, pool)
+    >>> [len(plan), shows_plan(program, naming, goal, pool, plan)]
+    [5, True]
+''',
+    "e37": '''
+    >>> from renamesteps.edits import add_use, remove_use
+    >>> program = ((-1, 2, (1,)), (0, 1, (0, 2)), (0, 1, (3,)))
+    >>> [add_use(program, 1, 1), remove_use(program, 0, 1)]
+    [((-1, 2, (1,)), (0, 1, (0, 1, 2)), (0, 1, (3,))), ((-1, 2, (1,)), (0, 1, (2,)), (0, 1, (3,)))]
+''',
+    "e38": '''
+    >>> from renamesteps.edits import add_use
+    >>> program = ((-1, 2, (1,)), (0, 1, (0, 2)), (0, 1, (3,)))
+    >>> add_use(program, 2, 0)
+    raises OutOfScope(0)
+''',
+    "e39": '''
+    >>> from renamesteps.edits import add_declaration, remove_declaration
+    >>> program = ((-1, 2, (1,)), (0, 1, (0, 2)), (0, 1, (3,)))
+    >>> [add_declaration(program, 0), remove_declaration(((-1, 2, (1,)), (0, 1, (1,))), 0)]
+    [((-1, 3, (1,)), (0, 1, (0, 3)), (0, 1, (4,))), ((-1, 1, (0,)), (0, 1, (0,)))]
+''',
+    "e40": '''
+    >>> from renamesteps.edits import remove_declaration
+    >>> program = ((-1, 2, (1,)), (0, 1, (0, 2)), (0, 1, (3,)))
+    >>> remove_declaration(program, 2)
+    raises StillUsed(1)
+''',
+    "e41": '''
+    >>> from renamesteps.edits import add_scope, remove_scope
+    >>> program = ((-1, 2, (1,)), (0, 1, (0, 2)), (0, 1, (3,)))
+    >>> [add_scope(program, 1), remove_scope(add_scope(program, 1), 2) == program]
+    [((-1, 2, (1,)), (0, 1, (0, 2)), (1, 0, ()), (0, 1, (3,))), True]
+''',
+    "e42": '''
+    >>> from renamesteps.edits import add_use, plan_for_use
+    >>> from renamesteps.plans import run_plan
+    >>> from renamesteps.validity import is_valid
+    >>> program = ((-1, 2, (1,)), (0, 1, (0, 2)), (0, 1, (3,)))
+    >>> naming = ("a", "b", "b", "a")
+    >>> plan = plan_for_use(program, naming, 1, 1, ("a", "b", "c"))
+    >>> later = run_plan(program, naming, plan)
+    >>> [is_valid(add_use(program, 1, 1), naming), is_valid(add_use(program, 1, 1), later)]
+    [False, True]
+''',
+    "e43": '''
+    >>> from renamesteps.edits import plan_for_use
+    >>> program = ((-1, 2, (1,)), (0, 1, (0, 2)), (0, 1, (3,)))
+    >>> naming = ("a", "b", "b", "a")
+    >>> plan_for_use(program, naming, 1, 1, ("a", "b"))
+    raises TooFewNames(3)
 ''',
 }
 

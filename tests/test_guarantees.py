@@ -1,19 +1,25 @@
 """Tests of the guarantees of the document, mostly by going through all namings of small programs."""
 
 import itertools
+import math
 import random
 import unittest
 
+from renamesteps.edits import add_use, plan_for_use
 from renamesteps.errors import Clash
 from renamesteps.fewest import shows_fewest, smallest_naming
 from renamesteps.groups import gather
+from renamesteps.parts import frozen_declarations, is_free, parts_of
 from renamesteps.plans import find_plan, plan_to_name
 from renamesteps.programs import height_of
 from renamesteps.regions import all_conflicts, conflicts_of, needed_in, widest_scope, width_of
 from renamesteps.renames import all_renames, blockers, rename
+from renamesteps.routes import find_route, reachable_namings, shows_route
+from renamesteps.shortest import fewest_renames, shortest_plan
 from renamesteps.validity import find_problems, is_valid
-from tests.definitions import count, renamed, valid_namings
+from tests.definitions import count, distances, enclosing, homes, named, renamed, valid_namings
 from tests.following import follow_by_validity
+from tests.held import HELD, HELD_GOAL, HELD_NAMING, LOOSER, grown, with_names
 from tests.samples import (
     EXAMPLE, HUNDRED, PROGRAMS, programs_of_shape, random_programs, random_valid_naming, small_programs)
 
@@ -131,6 +137,130 @@ class EveryMomentTest(unittest.TestCase):
             for number, name in itertools.product(range(count(program)), pool):
                 plan = plan_to_name(program, naming, number, name, pool)
                 self.assertEqual(follow_by_validity(self, program, naming, plan, pool)[number], name)
+
+
+class TightPoolsTest(unittest.TestCase):
+    """G5."""
+
+    def tight_cases(self):
+        """Programs with a pool of as many names as the width, a valid naming, and all namings that it can reach."""
+        source = random.Random(42)
+        programs = [grown(source, (HELD, LOOSER)[at % 2], source.randrange(3)) for at in range(20)]
+        for program in itertools.chain([EXAMPLE], small_programs(2), programs, random_programs(43, 120, 7, 6)):
+            pool = HUNDRED[:width_of(program)]
+            naming = random_valid_naming(source, program, pool)
+            yield program, pool, naming, distances(program, naming, range(count(program)), pool)
+
+    def test_a_frozen_declaration_never_changes_its_name(self):
+        shown = 0
+        for program, pool, naming, reached in self.tight_cases():
+            frozen = frozen_declarations(program, pool)
+            self.assertEqual({named(other, frozen) for other in reached}, {named(naming, frozen)})
+            shown += len(frozen) > 0 and len(reached) > 1
+        self.assertGreater(shown, 50)
+
+    def test_parts_are_independent_of_each_other(self):
+        shown = 0
+        for program, pool, naming, reached in self.tight_cases():
+            parts = parts_of(program, pool)
+            found = [reachable_namings(program, naming, part, pool) for part in parts]
+            self.assertEqual(
+                {tuple(named(other, part) for part in parts) for other in reached}, set(itertools.product(*found)))
+            self.assertEqual(len(reached), math.prod(map(len, found)))
+            shown += len([namings for namings in found if len(namings) > 1]) > 1
+        self.assertGreater(shown, 20)
+
+    def test_within_a_free_part_every_naming_can_be_reached(self):
+        shown = 0
+        for program, pool, naming, _ in self.tight_cases():
+            for part in parts_of(program, pool):
+                if is_free(program, part, pool):
+                    valid = [
+                        names for names in itertools.product(pool, repeat=len(part))
+                        if is_valid(program, with_names(naming, dict(zip(part, names))))]
+                    self.assertEqual(reachable_namings(program, naming, part, pool), tuple(sorted(valid)))
+                    shown += len(part) > 1
+        self.assertGreater(shown, 10)
+
+    def test_routes_tell_what_can_be_reached(self):
+        shown = set()
+        for program, pool, naming, reached in self.tight_cases():
+            if len(pool) ** count(program) > 300:
+                continue
+            for goal in valid_namings(program, pool):
+                route = find_route(program, naming, goal, pool)
+                self.assertEqual(route[0] == "plan", goal in reached)
+                self.assertIs(shows_route(program, naming, goal, pool, route), True)
+                if route[0] == "plan":
+                    self.assertEqual(follow_by_validity(self, program, naming, route[1], pool), goal)
+                shown.add(route[0])
+        self.assertLessEqual({"plan", "frozen"}, shown)
+
+    def test_routes_tell_what_can_be_reached_where_names_are_held(self):
+        shown = set()
+        for program, start in ((HELD, HELD_NAMING), (LOOSER, HELD_NAMING + ("b",)), (LOOSER, HELD_GOAL + ("c",))):
+            pool = ("a", "b", "c")
+            reached = distances(program, start, range(count(program)), pool)
+            for goal in valid_namings(program, pool):
+                route = find_route(program, start, goal, pool)
+                self.assertEqual(route[0] == "plan", goal in reached)
+                self.assertIs(shows_route(program, start, goal, pool, route), True)
+                shown.add(route[0])
+        self.assertEqual(shown, {"plan", "frozen", "closed"})
+
+    def test_what_is_shown_to_have_no_plan_has_none(self):
+        # No value with a frozen declaration or a closed set is shown where there is a plan.
+        for program, pool, naming, reached in self.tight_cases():
+            for goal in itertools.islice(reached, 0, None, 1 + len(reached) // 5):
+                for number, scope in itertools.product(range(count(program)), range(len(program))):
+                    self.assertIs(shows_route(program, naming, goal, pool, ("frozen", number, scope)), False)
+                for part in parts_of(program, pool):
+                    namings = reachable_namings(program, naming, part, pool)
+                    without = tuple(names for names in namings if names != named(goal, part))
+                    for value in (namings, without):
+                        self.assertIs(shows_route(program, naming, goal, pool, ("closed", part, value)), False)
+
+
+class FewestRenamesTest(unittest.TestCase):
+    """G6, and G4 for shortest plans."""
+
+    def test_the_sum_of_the_fewest_renames_within_all_parts(self):
+        source = random.Random(44)
+        shown = 0
+        for program, more in itertools.product(random_programs(45, 150, scopes=7, declarations=6), (0, 1)):
+            pool = HUNDRED[:width_of(program) + more]
+            if len(pool) ** count(program) > 800:
+                continue
+            start = random_valid_naming(source, program, pool)
+            steps = distances(program, start, range(count(program)), pool)
+            parts = parts_of(program, pool)
+            for goal in source.sample(sorted(steps), min(4, len(steps))):
+                numbers = [
+                    distances(program, start, part, pool)[with_names(start, dict(zip(part, named(goal, part))))]
+                    for part in parts]
+                self.assertEqual(sum(numbers), steps[goal])
+                self.assertEqual(fewest_renames(program, start, goal, pool), steps[goal])
+                plan = shortest_plan(program, start, goal, pool)
+                self.assertEqual(follow_by_validity(self, program, start, plan, pool), goal)
+                shown += len([number for number in numbers if number]) > 1
+        self.assertGreater(shown, 50)
+
+
+class RoomTest(unittest.TestCase):
+    """G7: a new use. G4 for the plans for it."""
+
+    def test_every_new_use(self):
+        source = random.Random(46)
+        for program in itertools.chain(small_programs(2), random_programs(47, 60, scopes=8, declarations=8)):
+            pool = HUNDRED[:width_of(program) + 1]
+            naming = random_valid_naming(source, program, pool)
+            for number, scope in itertools.product(range(count(program)), range(len(program))):
+                if homes(program)[number] in enclosing(program)[scope]:
+                    later = add_use(program, number, scope)
+                    self.assertIn(width_of(later) - width_of(program), (0, 1))
+                    plan = plan_for_use(program, naming, number, scope, pool)
+                    last = follow_by_validity(self, program, naming, plan, pool)
+                    self.assertIs(is_valid(later, last), True)
 
 
 if __name__ == "__main__":

@@ -10,8 +10,8 @@ from tests import definitions
 from tests.definitions import count
 from tests.following import follow, follow_by_validity
 from tests.samples import (
-    BARE, BARE_CHAIN, CROWDED, EXAMPLE, FUNNEL, HUNDRED, LINKS, PROGRAMS, SINGLE, any_values, random_programs,
-    random_valid_naming, small_programs, wrong_numbers)
+    BARE, BARE_CHAIN, CROWDED, EXAMPLE, FUNNEL, HUNDRED, LINKS, PROGRAMS, SINGLE, WRONG_NAMINGS, any_values,
+    random_programs, random_valid_naming, small_programs, wrong_numbers)
 
 NAMING = ("a", "b", "b", "a")
 GOAL = ("c", "b", "b", "c")
@@ -23,12 +23,6 @@ WRONG_PAIRS = (
     (), (0,), ("c",), (0, "c", "c"), (4, "c"), (-1, "c"), (True, "c"), (False, "c"), ("0", "c"), (None, "c"), ("c", 0),
     (0, "C"), (0, ""), (0, "abcdefghi"), (0, None), (0, 0), (0, b"c"), (0, ("c",)), ((0,), "c"), [0, "c"], "0c", 0,
     None)
-
-# Namings of EXAMPLE that are not valid, or have names that are not in POOL, and values that are no namings of it.
-WRONG_NAMINGS = (
-    (), ("a",), ("a", "b", "b"), ("a", "b", "b", "a", "a"), ["a", "b", "b", "a"], ("a", "b", "b", "d"),
-    ("a", "a", "b", "b"), ("a", "b", "a", "b"), ("a", "b", "b", "A"), ("a", "b", "b", None), ("a", "b", "b", ["a"]),
-    "abba", 0, -1)
 
 
 def long_plan(program, naming, pool, many, source):
