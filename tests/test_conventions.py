@@ -6,13 +6,18 @@ import itertools
 import unittest
 
 from renamesteps import (
-    edits, fewest, groups, names, parts, plans, programs, regions, renames, routes, shortest, validity)
-from renamesteps.errors import BadName, BadNaming, BadPlan, NoDeclaration, NoScope, RenameError, TooLarge
+    edits, errors, fewest, groups, names, parts, plans, programs, reading, regions, renames, routes, shortest, validity,
+    writing)
+from renamesteps.desk import Desk
+from renamesteps.errors import (
+    BadLine, BadName, BadNaming, BadPlan, BadPool, BadProgram, BadText, NoDeclaration, NoScope, RenameError, TooLarge)
+from renamesteps.workspace import Workspace
 from tests.samples import EXAMPLE, HUNDRED, any_values
 
 NAMING = ("a", "b", "b", "a")
 GOAL = ("a", "c", "c", "a")
 POOL = ("a", "b", "c")
+TEXT = "let a\nlet b\nuse b\n{\nlet b\nuse a\nuse b\n}\n{\nlet a\nuse a\n}"
 
 # Each function with its parameters in the order of the document, arguments, and what it returns.
 # Where the document allows several results, it is the one that this package returns.
@@ -73,6 +78,9 @@ CALLS = (
     (edits.remove_scope, {"program": EXAMPLE + ((0, 0, ()),), "scope": 3}, EXAMPLE),
     (edits.plan_for_use,
      {"program": EXAMPLE, "naming": NAMING, "declaration": 1, "scope": 1, "pool": POOL}, ((1, "c"),)),
+    (writing.write_program, {"program": EXAMPLE, "naming": NAMING}, TEXT),
+    (reading.read_program, {"text": TEXT}, (EXAMPLE, NAMING)),
+    (reading.same_program, {"one": TEXT, "other": "let a"}, False),
 )
 
 # The parameters that are passed by keyword, with their defaults.
@@ -132,6 +140,75 @@ OPEN_PARAMETERS = (
     (edits.plan_for_use, "declaration", NO_DECLARATION),
     (edits.plan_for_use, "scope", NO_SCOPE),
 )
+
+# Each method of a class, on new objects made with the arguments below, as the functions above.
+SPACE = {"program": EXAMPLE, "naming": NAMING, "pool": POOL}
+DESK = {"text": TEXT, "names": "a b c"}
+METHODS = (
+    (Workspace, "rename_one", {"declaration": 3, "name": "c"}, ("a", "b", "b", "c")),
+    (Workspace, "go_to", {"goal": GOAL}, ((1, "c"), (2, "c"))),
+    (Workspace, "give_name", {"declaration": 0, "name": "c"}, ((0, "c"),)),
+    (Workspace, "use_in", {"declaration": 1, "scope": 1}, ((1, "c"),)),
+    (Workspace, "unuse_in", {"declaration": 0, "scope": 1}, None),
+    (Workspace, "widen_pool", {"name": "d"}, ("a", "b", "c", "d")),
+    (Workspace, "current_program", {}, EXAMPLE),
+    (Workspace, "current_naming", {}, NAMING),
+    (Workspace, "current_pool", {}, POOL),
+    (Workspace, "change_count", {}, 0),
+    (Workspace, "copy", {}, Workspace(**SPACE)),
+    (Desk, "say", {"line": "naming"}, "a b b a"),
+)
+# The parameters of methods and constructors that accept any value, with the error for what is wrong there.
+OPEN_IN_METHODS = (
+    (Workspace, "rename_one", "declaration", NO_DECLARATION),
+    (Workspace, "rename_one", "name", (BadName, "name")),
+    (Workspace, "go_to", "goal", BAD_NAMING),
+    (Workspace, "give_name", "declaration", NO_DECLARATION),
+    (Workspace, "give_name", "name", (BadName, "name")),
+    (Workspace, "use_in", "declaration", NO_DECLARATION),
+    (Workspace, "use_in", "scope", NO_SCOPE),
+    (Workspace, "unuse_in", "declaration", NO_DECLARATION),
+    (Workspace, "unuse_in", "scope", NO_SCOPE),
+    (Workspace, "widen_pool", "name", (BadName, "name")),
+    (Desk, "say", "line", (BadLine, "line")),
+)
+OPEN_IN_CONSTRUCTORS = (
+    (Workspace, "program", (BadProgram, "program")),
+    (Workspace, "naming", BAD_NAMING),
+    (Workspace, "pool", (BadPool, "pool")),
+    (Desk, "names", (BadPool, "pool")),
+)
+
+# All names that the interface lists, by modules.
+INTERFACE = {
+    errors: """RenameError NoScope NoDeclaration BadName BadNaming BadProgram BadPool BadPlan Unsafe Clash TooFewNames
+        TooMany TooLarge OutOfScope MissingUse StillUsed NotEmpty NothingToUndo BadText BadLine""",
+    programs: "is_program home_of declarations_of enclosing_scopes inner_scopes height_of",
+    names: "is_name is_pool is_naming look_up",
+    validity: "find_problems is_valid",
+    regions: "region_of needed_in in_conflict conflicts_of all_conflicts width_of widest_scope",
+    fewest: "smallest_naming shows_fewest",
+    renames: "blockers free_names rename all_renames",
+    groups: "groups_of shows_groups gather",
+    plans: "run_plan shows_plan find_plan plan_to_name",
+    parts: "full_scopes frozen_declarations parts_of is_free",
+    routes: "reachable_namings find_route shows_route",
+    shortest: "fewest_renames shortest_plan",
+    edits: "add_use remove_use add_declaration remove_declaration add_scope remove_scope plan_for_use",
+    writing: "write_program",
+    reading: "read_program same_program",
+}
+
+
+def new_object(owner):
+    return owner(**(SPACE if owner is Workspace else DESK))
+
+
+def state_of(thing):
+    """What an object tells of itself."""
+    if isinstance(thing, Desk):
+        return [thing.say(line) for line in ("text", "naming", "pool", "changes")]
+    return [thing.current_program(), thing.current_naming(), thing.current_pool(), thing.change_count()]
 
 
 def arguments_with(function, parameter, value):
@@ -195,6 +272,104 @@ class ParametersTest(unittest.TestCase):
                 self.assertEqual(function(**arguments), result)
 
 
+class MethodsTest(unittest.TestCase):
+    def test_arguments_by_position(self):
+        for owner, method, arguments, result in METHODS:
+            with self.subTest(method):
+                self.assertEqual(getattr(new_object(owner), method)(*arguments.values()), result)
+
+    def test_arguments_by_name_in_every_order(self):
+        for owner, method, arguments, result in METHODS:
+            for order in itertools.permutations(arguments):
+                with self.subTest(method, order=order):
+                    found = getattr(new_object(owner), method)(**{name: arguments[name] for name in order})
+                    self.assertEqual(found, result)
+                    self.assertIs(type(found), type(result))
+
+    def test_the_constructors_by_position_and_by_name_in_every_order(self):
+        for owner, arguments in ((Workspace, SPACE), (Desk, DESK)):
+            expected = state_of(new_object(owner))
+            self.assertEqual(state_of(owner(*arguments.values())), expected)
+            for order in itertools.permutations(arguments):
+                self.assertEqual(state_of(owner(**{name: arguments[name] for name in order})), expected)
+
+    def test_the_parameters_are_those_of_the_document(self):
+        for owner, method, arguments, _ in METHODS:
+            with self.subTest(method):
+                parameters = inspect.signature(getattr(new_object(owner), method)).parameters
+                self.assertEqual(list(parameters), list(arguments))
+                self.assertEqual([each.default for each in parameters.values()], [inspect.Parameter.empty] * len(arguments))
+        self.assertEqual(list(inspect.signature(Workspace).parameters), list(SPACE))
+        defaults = {name: each.default for name, each in inspect.signature(Desk).parameters.items()}
+        self.assertEqual(defaults, {"text": "", "names": "a b c"})
+        self.assertEqual(list(inspect.signature(Workspace(**SPACE).undo).parameters), [])
+
+    def test_each_method_is_defined_in_the_class_itself(self):
+        for owner, method, _, _ in METHODS + ((Workspace, "undo", {}, None), (Workspace, "__eq__", {}, None)):
+            self.assertIn(method, vars(owner))
+
+    def test_values_of_any_kind(self):
+        for owner, method, parameter, error in OPEN_IN_METHODS:
+            arguments = [row[2] for row in METHODS if row[1] == method][0]
+            thing = new_object(owner)
+            before = state_of(thing)
+            for value in any_values():
+                with self.subTest(method, parameter=parameter, kind=type(value)):
+                    with self.assertRaises(RenameError) as context:
+                        getattr(thing, method)(**{**arguments, parameter: value})
+                    self.assertIs(type(context.exception), error[0])
+                    self.assertIs(vars(context.exception)[error[1]], value)
+                    self.assertEqual(state_of(thing), before)
+
+    def test_values_of_any_kind_for_constructors(self):
+        for owner, parameter, error in OPEN_IN_CONSTRUCTORS:
+            for value in any_values():
+                # These two describe pools.
+                if owner is Desk and isinstance(value, str) and value in ("", "a b"):
+                    continue
+                arguments = {**(SPACE if owner is Workspace else {"text": "let zz"}), parameter: value}
+                with self.subTest(owner.__name__, parameter=parameter, kind=type(value)):
+                    with self.assertRaises(RenameError) as context:
+                        owner(**arguments)
+                    self.assertIs(type(context.exception), error[0])
+                    self.assertIs(vars(context.exception)[error[1]], value)
+
+    def test_no_argument_changes(self):
+        for owner, method, parameter, _ in OPEN_IN_METHODS:
+            arguments = [row[2] for row in METHODS if row[1] == method][0]
+            for value in mutable_values():
+                before = copy.deepcopy(value)
+                self.assertRaises(
+                    RenameError, getattr(new_object(owner), method), **{**arguments, parameter: value})
+                self.assertEqual(value, before)
+        for owner, parameter, _ in OPEN_IN_CONSTRUCTORS:
+            for value in mutable_values():
+                before = copy.deepcopy(value)
+                self.assertRaises(
+                    RenameError, owner, **{**(SPACE if owner is Workspace else {"text": ""}), parameter: value})
+                self.assertEqual(value, before)
+        before = copy.deepcopy((SPACE, DESK))
+        for owner, method, arguments, _ in METHODS:
+            given = copy.deepcopy(arguments)
+            getattr(new_object(owner), method)(**given)
+            self.assertEqual(given, arguments)
+        self.assertEqual((SPACE, DESK), before)
+
+
+class InterfaceTest(unittest.TestCase):
+    def test_every_name_exists(self):
+        for module, listed in INTERFACE.items():
+            for name in listed.split():
+                with self.subTest(module.__name__, name=name):
+                    self.assertEqual(getattr(module, name).__module__, module.__name__)
+        self.assertEqual(Workspace.__module__, "renamesteps.workspace")
+        self.assertEqual(Desk.__module__, "renamesteps.desk")
+
+    def test_every_function_is_tried_above(self):
+        listed = {name for module, found in INTERFACE.items() if module is not errors for name in found.split()}
+        self.assertEqual({function.__name__ for function, _, _ in CALLS}, listed)
+
+
 class UnchangedArgumentsTest(unittest.TestCase):
     def test_arguments_that_are_right(self):
         for function, arguments, _ in CALLS:
@@ -231,8 +406,20 @@ class ErrorsTest(unittest.TestCase):
 
     def test_every_number_is_tried(self):
         numbers = ("declaration", "scope", "one", "other")
-        found = [(function, name) for function, arguments, _ in CALLS for name in arguments if name in numbers]
+        found = [(function, name) for function, arguments, _ in CALLS for name in arguments
+                 if name in numbers and function is not reading.same_program]
         self.assertEqual([row[:2] for row in OPEN_PARAMETERS if row[1] in numbers], found)
+
+    def test_texts_of_any_kind(self):
+        for value in any_values():
+            if isinstance(value, str) and not value:
+                continue
+            for function, arguments in (
+                    (reading.read_program, {"text": value}), (reading.same_program, {"one": value, "other": TEXT}),
+                    (reading.same_program, {"one": TEXT, "other": value}), (Desk, {"text": value})):
+                with self.subTest(function.__name__, kind=type(value)), self.assertRaises(BadText) as context:
+                    function(**arguments)
+                self.assertEqual(vars(context.exception), {"line": 0})
 
     def test_no_scope_comes_before_a_name_of_any_kind(self):
         for scope, name in itertools.product(any_values(), any_values()):
@@ -295,6 +482,7 @@ class LimitsTest(unittest.TestCase):
         self.assertEqual(edits.remove_declaration(program, 99)[49], (48, 1, (0,)))
         self.assertEqual(edits.remove_scope(program + ((49, 0, ()),), 50), program)
         self.assertEqual(edits.plan_for_use(program, naming, 97, 49, HUNDRED[:4]), ((97, "ad"),))
+        self.assertEqual(len(writing.write_program(program, naming).split("\n")), 50 * 3 + 49 * 2)
         for edit, limit in ((edits.add_declaration, 60), (edits.add_scope, 40)):
             with self.assertRaises(TooLarge) as context:
                 edit(program, 49)

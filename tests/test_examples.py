@@ -9,8 +9,7 @@ from renamesteps import errors
 
 DOCUMENT = pathlib.Path(__file__).resolve().parents[2] / "shared" / "DOC.md"
 README = pathlib.Path(__file__).resolve().parents[1] / "README.md"
-# The examples of the modules that exist so far.
-LAST_EXAMPLE = 43
+LAST_EXAMPLE = 53
 
 EXAMPLES = {
     "e01": '''
@@ -314,6 +313,71 @@ EXAMPLES = {
     >>> plan_for_use(program, naming, 1, 1, ("a", "b"))
     raises TooFewNames(3)
 ''',
+    "e44": r'''
+    >>> from renamesteps.writing import write_program
+    >>> program = ((-1, 2, (1,)), (0, 1, (0, 2)), (0, 1, (3,)))
+    >>> naming = ("a", "b", "b", "a")
+    >>> write_program(program, naming)
+    'let a\nlet b\nuse b\n{\nlet b\nuse a\nuse b\n}\n{\nlet a\nuse a\n}'
+''',
+    "e45": r'''
+    >>> from renamesteps.reading import read_program
+    >>> read_program("use f\n{\nuse f\n}\nlet f")
+    (((-1, 1, (0,)), (0, 0, (0,))), ('f',))
+''',
+    "e46": r'''
+    >>> from renamesteps.reading import read_program
+    >>> read_program("{\nuse x\n}")
+    raises BadText(1)
+''',
+    "e47": r'''
+    >>> from renamesteps.reading import same_program
+    >>> [same_program("let a\nuse a", "use b\nlet b"), same_program("let a\nlet b\nuse a", "let a\nlet b\nuse b")]
+    [True, False]
+''',
+    "e48": '''
+    >>> from renamesteps.workspace import Workspace
+    >>> program = ((-1, 2, (1,)), (0, 1, (0, 2)), (0, 1, (3,)))
+    >>> space = Workspace(program, ("a", "b", "b", "a"), ("a", "b", "c"))
+    >>> names = space.rename_one(3, "b")
+    >>> plan = space.give_name(0, "b")
+    >>> given = space.current_naming()[0]
+    >>> undone = space.undo()
+    >>> [names, given, space.current_naming(), space.change_count()]
+    [('a', 'b', 'b', 'b'), 'b', ('a', 'b', 'b', 'b'), 1]
+''',
+    "e49": '''
+    >>> from renamesteps.workspace import Workspace
+    >>> Workspace(((-1, 1, ()),), ("b",), ("a",))
+    raises BadNaming(('b',))
+''',
+    "e50": '''
+    >>> from renamesteps.workspace import Workspace
+    >>> program = ((-1, 2, (1,)), (0, 1, (0, 2)), (0, 1, (3,)))
+    >>> space = Workspace(program, ("a", "b", "b", "a"), ("a", "b"))
+    >>> space.go_to(("b", "a", "a", "a"))
+    raises TooFewNames(3)
+''',
+    "e51": r'''
+    >>> from renamesteps.desk import Desk
+    >>> desk = Desk("let a\nlet b\nuse b\n{\nlet b\nuse a\nuse b\n}\n{\nlet a\nuse a\n}")
+    >>> first = [desk.say("width"), desk.say("region 0"), desk.say("free 3"), desk.say("rename 3 c")]
+    >>> second = [desk.say("widen d"), desk.say("needed 1"), desk.say("frozen"), desk.say("undo"), desk.say("pool")]
+    >>> [first, second]
+    [['2', '0 1', 'b c', 'a b b c'], ['a b c d', '0 2', '-', 'done', 'a b c']]
+''',
+    "e52": '''
+    >>> from renamesteps.desk import Desk
+    >>> desk = Desk()
+    >>> desk.say("rename 0")
+    raises BadLine('rename 0')
+''',
+    "e53": '''
+    >>> from renamesteps.desk import Desk
+    >>> desk = Desk()
+    >>> desk.say("rename 0 a")
+    raises NoDeclaration(0)
+''',
 }
 
 
@@ -351,6 +415,7 @@ class ExamplesTest(unittest.TestCase):
         found = dict(re.findall(r"^Example (e\d\d):\n\n((?:    .*\n?)+)", text, re.MULTILINE))
         wanted = [f"e{number:02}" for number in range(1, LAST_EXAMPLE + 1)]
         self.assertEqual(list(EXAMPLES), wanted)
+        self.assertEqual(list(found), wanted)
         for name in wanted:
             with self.subTest(name):
                 self.assertEqual(lines_of(EXAMPLES[name]), lines_of(found[name]))

@@ -1,22 +1,27 @@
 """Tests of the guarantees of the document, mostly by going through all namings of small programs."""
 
+import collections
 import itertools
 import math
 import random
 import unittest
 
 from renamesteps.edits import add_use, plan_for_use
-from renamesteps.errors import Clash
+from renamesteps.errors import BadText, Clash, TooFewNames
 from renamesteps.fewest import shows_fewest, smallest_naming
 from renamesteps.groups import gather
 from renamesteps.parts import frozen_declarations, is_free, parts_of
 from renamesteps.plans import find_plan, plan_to_name
 from renamesteps.programs import height_of
+from renamesteps.reading import read_program, same_program
 from renamesteps.regions import all_conflicts, conflicts_of, needed_in, widest_scope, width_of
 from renamesteps.renames import all_renames, blockers, rename
 from renamesteps.routes import find_route, reachable_namings, shows_route
 from renamesteps.shortest import fewest_renames, shortest_plan
 from renamesteps.validity import find_problems, is_valid
+from renamesteps.workspace import Workspace
+from renamesteps.writing import write_program
+from tests import texts
 from tests.definitions import count, distances, enclosing, homes, named, renamed, valid_namings
 from tests.following import follow_by_validity
 from tests.held import HELD, HELD_GOAL, HELD_NAMING, LOOSER, grown, with_names
@@ -261,6 +266,107 @@ class RoomTest(unittest.TestCase):
                     plan = plan_for_use(program, naming, number, scope, pool)
                     last = follow_by_validity(self, program, naming, plan, pool)
                     self.assertIs(is_valid(later, last), True)
+
+
+class WorkspaceTest(unittest.TestCase):
+    """G3, G4 and G7 for what a workspace does."""
+
+    def test_every_moment_of_many_changes(self):
+        source = random.Random(48)
+        shown = collections.Counter()
+        for program in itertools.chain([EXAMPLE, HELD], random_programs(49, 25, scopes=9, declarations=10)):
+            pool = HUNDRED[:width_of(program) + 1]
+            space = Workspace(program, random_valid_naming(source, program, pool), pool)
+            for _ in range(25 if count(program) else 0):
+                shown += self.make_a_change(source, space)
+        self.assertGreater(min(shown[method] for method in ("go_to", "give_name", "use_in", "no room")), 10, shown)
+
+    def make_a_change(self, source, space):
+        """One call with a plan, which succeeds wherever the pool has more names than the width."""
+        program, naming, pool = space.current_program(), space.current_naming(), space.current_pool()
+        number = source.randrange(count(program))
+        scope = source.choice([at for at in range(len(program)) if homes(program)[number] in enclosing(program)[at]])
+        method, arguments = source.choice((
+            ("go_to", (random_valid_naming(source, program, pool),)), ("give_name", (number, source.choice(pool))),
+            ("use_in", (number, scope))))
+        try:
+            plan = getattr(space, method)(*arguments)
+        except TooFewNames:
+            self.assertEqual(len(pool), width_of(program))
+            space.widen_pool(HUNDRED[len(pool)])
+            return collections.Counter(["no room"])
+        self.assertLessEqual(len(plan), 4 * count(program) * height_of(program))
+        self.assertEqual(follow_by_validity(self, program, naming, plan, pool), space.current_naming())
+        self.assertIs(is_valid(space.current_program(), space.current_naming()), True)
+        return collections.Counter([method])
+
+
+class TextsTest(unittest.TestCase):
+    """G8."""
+
+    def test_what_is_written_is_read_as_the_same_program_and_naming(self):
+        source = random.Random(50)
+        for program in itertools.chain(some_programs(), PROGRAMS, random_programs(51, 40)):
+            naming = random_valid_naming(source, program, HUNDRED[:width_of(program) + 1])
+            self.assertEqual(read_program(write_program(program, naming)), (program, naming))
+
+    def test_texts_that_differ_in_what_does_not_matter(self):
+        source = random.Random(52)
+        for program in itertools.chain(some_programs(), PROGRAMS, random_programs(53, 20)):
+            namings = [random_valid_naming(source, program, HUNDRED[:width_of(program) + 2]) for _ in range(2)]
+            one, other = (texts.shuffled(source, program, naming, 3) for naming in namings)
+            self.assertIs(same_program(one, other), True)
+            self.assertEqual(read_program(one), (program, namings[0]))
+            self.assertEqual(read_program(other), (program, namings[1]))
+
+    def test_texts_that_differ_in_what_matters(self):
+        # Two texts that are accepted and describe the same program are written alike once the names are alike, too.
+        accepted = []
+        for many in range(6):
+            for lines in itertools.product(("let a", "let b", "use a", "{", "}"), repeat=many):
+                try:
+                    read_program("\n".join(lines))
+                except BadText:
+                    continue
+                accepted.append("\n".join(lines))
+        source = random.Random(54)
+        shown = set()
+        for one, other in (source.sample(accepted, 2) for _ in range(4000)):
+            expected = canonical(one) == canonical(other)
+            self.assertIs(same_program(one, other), expected, (one, other))
+            shown.add(expected)
+        self.assertEqual(shown, {True, False})
+
+
+def canonical(text):
+    """A text without what does not matter: the lines of each scope sorted by kinds, each use once, and new names.
+
+    The let lines and the inner scopes keep their sequence. Each use is replaced by the place of its declaration.
+    """
+    waiting = texts.lines_in(text)
+
+    def rows_of():
+        lets, uses, inner = [], set(), []
+        while waiting:
+            line = waiting.pop(0)
+            if line == "}":
+                break
+            if line == "{":
+                inner.append(rows_of())
+            else:
+                (lets.append if line.startswith("let ") else uses.add)(line[4:])
+        return lets, uses, inner
+
+    def found_by(name, around):
+        depth = max(depth for depth, lets in enumerate(around) if name in lets)
+        return depth, around[depth].index(name)
+
+    def described(rows, around):
+        lets, uses, inner = rows
+        around = around + [lets]
+        return len(lets), sorted(found_by(name, around) for name in uses), [described(row, around) for row in inner]
+
+    return described(rows_of(), [])
 
 
 if __name__ == "__main__":
