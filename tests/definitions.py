@@ -127,7 +127,7 @@ def named(naming, part):
 
 
 def distances(program, naming, numbers, pool):
-    """For each naming that renames of these declarations can lead to, the fewest renames that do, by trying them all."""
+    """For each naming that renames of these declarations can lead to, the fewest that do, by trying all of them."""
     found = {naming: 0}
     newest = [naming]
     while newest:

@@ -27,6 +27,8 @@ BARRED_WORDS = re.compile(r"\b(type|typing|typing_extensions|enum|Enum|IntEnum|S
                           r"ABCMeta|namedtuple|NamedTuple|TypedDict|TYPE_CHECKING|abstractmethod)\b|dataclass|overload|"
                           r"contextmanager")
 BARRED_NODES = (ast.Global, ast.AsyncFunctionDef, ast.AsyncFor, ast.AsyncWith, ast.Await, ast.Div)
+# The names of methods of builtin values that attributes may have, too.
+FREE_ATTRIBUTES = set("count index title find get join lower upper split strip copy add".split())
 PLAIN_DOUBLE = re.compile(r"__[a-z]+__")
 
 
@@ -37,9 +39,10 @@ def find_breaks(files):
     for name, text in files.items():
         breaks += [(name, line, rule) for line, rule in text_breaks(name, text)]
         trees[name] = ast.parse(text)
-    own_methods = {part.name for tree in trees.values() for node in ast.walk(tree) if isinstance(node, ast.ClassDef)
-                   for part in node.body if isinstance(part, ast.FunctionDef)}
+    own_methods = {part.name for tree in trees.values() for part in methods_in(tree)}
     for name, tree in trees.items():
+        breaks += [(name, line, rule) for line, rule in place_breaks(tree, own_methods)]
+        breaks += [(name, line, rule) for line, rule in attribute_breaks(tree, trees)]
         breaks += [(name, line, rule) for line, rule in module_breaks(tree)]
         breaks += [(name, line, rule) for line, rule in node_breaks(tree, own_methods)]
         breaks += [(name, line, rule) for line, rule in import_breaks(tree, trees)]
@@ -136,12 +139,86 @@ def node_breaks(tree, own_methods):
 
 
 def definition_breaks(node):
+    if isinstance(node, ast.FunctionDef):
+        given = node.args.defaults + [default for default in node.args.kw_defaults if default is not None]
+        if not all(isinstance(default, ast.Constant) for default in given):
+            yield node.lineno, "L4 default"
     if node.decorator_list and isinstance(node, ast.ClassDef):
         yield node.lineno, "L5 decorator"
     if isinstance(node, ast.FunctionDef) and node.end_lineno - node.lineno + 1 > 40:
         yield node.lineno, "L10 function"
     if isinstance(node, ast.FunctionDef) and node.args.posonlyargs:
         yield node.lineno, "L4 parameters"
+
+
+def methods_in(tree):
+    return [part for node in ast.walk(tree) if isinstance(node, ast.ClassDef)
+            for part in node.body if isinstance(part, ast.FunctionDef)]
+
+
+def is_call_of(node, names):
+    """Whether a node calls a builtin, or a method of a value, with one of these names."""
+    if not isinstance(node, ast.Call):
+        return False
+    return isinstance(node.func, ast.Name) and node.func.id in names or (
+        isinstance(node.func, ast.Attribute) and node.func.attr in names)
+
+
+def place_breaks(tree, own_methods):
+    """Generators, iterators, sets, keywords and annotations where they may not stand.
+
+    Where the rules allow more than the package needs, these checks are narrower than the rules.
+    """
+    above = {id(child): node for node in ast.walk(tree) for child in ast.iter_child_nodes(node)}
+    # A comprehension or a loop that iterates over something has it as its `iter`.
+    iterated = {id(node.iter) for node in ast.walk(tree) if isinstance(node, (ast.For, ast.comprehension))}
+    for node in ast.walk(tree):
+        parent = above.get(id(node))
+        line = getattr(node, "lineno", 0)
+        if isinstance(node, ast.GeneratorExp):
+            takers = set() if "__eq__" in own_methods else {"any", "all", "min", "max", "sum", "sorted"}
+            if not is_call_of(parent, takers | {"list", "tuple", "dict", "join"}):
+                yield line, "L7 generator"
+        if is_call_of(node, {"zip", "enumerate", "range", "reversed", "items", "keys", "values"}):
+            if id(node) not in iterated and not is_call_of(
+                    parent, {"list", "tuple", "dict", "sorted", "sum", "any", "all", "enumerate", "zip", "min", "max"}):
+                yield line, "L23 stored"
+        if isinstance(node, (ast.Set, ast.SetComp)) or is_call_of(node, {"set", "frozenset"}):
+            if not is_call_of(parent, {"sorted", "len"}) and not isinstance(parent, ast.Compare):
+                yield line, "L24 set"
+        if isinstance(node, ast.Call) and node.keywords and is_call_of(node, BUILTINS | METHODS - own_methods):
+            if {word.arg for word in node.keywords} - {"key", "reverse", "default", "start", "strict"}:
+                yield line, "L22 keyword"
+        if isinstance(node, (ast.AnnAssign, ast.Yield, ast.YieldFrom, ast.With, ast.Match, ast.NamedExpr, ast.Lambda)):
+            yield line, "L4 L6 L21 not needed"
+
+
+def attribute_breaks(tree, trees):
+    """Methods and attributes with names that they may not have, and attributes that nothing assigns."""
+    attributes = [node for other in trees.values() for node in ast.walk(other) if isinstance(node, ast.Attribute)]
+    assigned = {node.attr for node in attributes if isinstance(node.ctx, ast.Store)}
+    methods = {part.name for other in trees.values() for part in methods_in(other)}
+    called = {id(node.func) for node in ast.walk(tree) if isinstance(node, ast.Call)}
+    for part in methods_in(tree):
+        if part.name in assigned:
+            yield part.lineno, "L18 method and attribute"
+        if part.name.startswith("__") and part.name not in ("__init__", "__eq__"):
+            yield part.lineno, "L5 method"
+        if hasattr_of_builtins(part.name) and part.name not in METHODS:
+            yield part.lineno, "L26 method"
+        if part.name == "__eq__" and any(isinstance(node, (ast.Assign, ast.AugAssign)) for node in ast.walk(part)):
+            yield part.lineno, "L28"
+    for node in ast.walk(tree):
+        if isinstance(node, ast.Attribute) and id(node) not in called:
+            if node.attr not in assigned | methods:
+                yield node.lineno, "L18 not assigned"
+            if isinstance(node.ctx, ast.Store) and hasattr_of_builtins(node.attr) and node.attr not in FREE_ATTRIBUTES:
+                yield node.lineno, "L26 attribute"
+
+
+def hasattr_of_builtins(name):
+    plain = not name.startswith("__")
+    return plain and any(hasattr(value, name) for value in ("", 0, [], {}, set(), b"", ValueError()))
 
 
 def is_singleton(node):

@@ -16,6 +16,7 @@ from renamesteps.writing import write_program
 from tests import definitions
 from tests.definitions import count
 from tests.following import follow_by_validity
+from tests.raising import RaisingTest
 from tests.samples import (
     BARE, EXAMPLE, HUNDRED, LARGEST, PROGRAMS, any_values, random_programs, random_valid_naming)
 
@@ -28,7 +29,8 @@ QUESTIONS = ("naming", "pool", "text", "frozen", "width", "changes")
 # Lines of no form, for every desk.
 WRONG_LINES = (
     "", " ", "  ", "\n", "rename", "rename 0", "rename a", "rename a 0", "rename 0 a b", "rename 0 a 0", "rename 0 0",
-    "rename a a", "rename  0 a", "rename 0  a", " rename 0 a", "rename 0 a ", "rename 0 a\n", "rename 0\ta", "rename\t0 a",
+    "rename a a", "rename  0 a", "rename 0  a", " rename 0 a", "rename 0 a ", "rename 0 a\n", "rename 0\ta",
+    "rename\t0 a",
     "rename 00 a", "rename 01 a", "rename 007 a", "rename 000 a", "rename 1000 a", "rename 0000 a", "rename 12345 a",
     "rename -1 a", "rename +1 a", "rename -0 a", "rename 1_0 a", "rename 1.0 a", "rename 0x1 a", "rename 1e0 a",
     "rename \u0661 a", "rename \u00b2 a", "rename \uff11 a", "rename \u0967 a", "rename \u2460 a", "rename 1\u0660 a",
@@ -39,29 +41,29 @@ WRONG_LINES = (
     "use 0 1000", "use N N", "unuse", "unuse 0", "unuse 0 a", "unuse a 0", "unuse 0 0 0", "unuse 00 0", "unuse 0 1000",
     "undo 0", "undo a", "undo ", " undo", "undo  ", "Undo", "UNDO", "undo\n", "undo\r", "undone", "redo",
     "widen", "widen 0", "widen A", "widen a b", "widen a b c", "widen  a", "widen a ", "widen abcdefghi", "widen NAME",
-    "goto ", "goto  ", "goto 0", "goto a 0", "goto a  b", "goto a b ", " goto a", "goto A", "goto a B", "goto abcdefghi",
+    "goto ", "goto  ", "goto 0", "goto a 0", "goto a  b", "goto a b ", " goto a", "goto A", "goto a B",
+    "goto abcdefghi",
     "goto a,b", "goto a\nb", "goto NAME ...", "goto NAME", "goto ...", "goto -", "go to a", "go_to a", "Goto a",
     "naming a", "naming 0", "naming ", " naming", "Naming", "namings", "pool 0", "pool a", "pool ", "text 0", "text a",
     "text ", "text\n", "region", "region a", "region 0 0", "region 00", "region 1000", "region -1", "region 0 ",
     "region  0", "region N", "needed", "needed a", "needed 0 0", "needed 01", "needed 1000", "needed +0", "needed 0 ",
     "free", "free a", "free 0 a", "free 0 0", "free 00", "free 1000", "free 0 ", "frozen 0", "frozen a", "frozen ",
-    "width 0", "width a", "width ", "width\n", "changes 0", "changes a", "changes ", "change", "count", "program", "copy",
+    "width 0", "width a", "width ", "width\n", "changes 0", "changes a", "changes ", "change", "count", "program",
+    "copy",
     "help", "a", "0", "N", "NAME", "-", "/", "done", "rename 0 a / undo", "rename 0 a;undo", "\u00a0", "undo\u00a0",
     "undo\u3000", "undo\x00", "rename\u00a00 a")
 
 
-class DeskTest(unittest.TestCase):
+class DeskTest(RaisingTest):
     def assert_error(self, error, value, function, *arguments):
-        with self.subTest(arguments=repr(arguments)[:80]), self.assertRaises(RenameError) as context:
-            function(*arguments)
-        self.assertIs(type(context.exception), error)
-        self.assertEqual(len(vars(context.exception)), 1)
-        found = list(vars(context.exception).values())[0]
-        self.assertIs(type(found), type(value))
-        if isinstance(value, (int, str, tuple)) and not isinstance(value, bool):
-            self.assertEqual(repr(found), repr(value))
-        else:
-            self.assertIs(found, value)
+        """The call raises this error with this value, where the desk makes numbers and tuples of names itself."""
+        with self.subTest(arguments=repr(arguments)[:80]):
+            found = self.raised_value(error, function, *arguments)
+            self.assertIs(type(found), type(value))
+            if isinstance(value, (int, str, tuple)):
+                self.assertEqual(repr(found), repr(value))
+            else:
+                self.assertIs(found, value)
 
     def answers(self, desk):
         """The answers to all questions without numbers."""
@@ -286,6 +288,25 @@ class BadLineTest(DeskTest):
             for wrong in (" " + line, line + " ", line.replace(" ", "  ", 1) + " " * (" " not in line), line + "\n",
                           line.upper(), line + " 0", line + " A", "\t" + line, line.replace(" ", "\t") + "\t"):
                 self.assert_refused(BadLine, wrong, Desk(TEXT), wrong)
+
+    def test_every_single_character_as_a_number(self):
+        desk = Desk(TEXT)
+        for character in map(chr, range(0x3000)):
+            if character in "0123":
+                self.assertIs(type(desk.say(f"region {character}")), str)
+            elif character in "456789":
+                self.assertRaises(NoDeclaration, desk.say, f"region {character}")
+            else:
+                self.assertRaises(BadLine, desk.say, f"region {character}")
+                self.assertRaises(BadLine, desk.say, f"region 1{character}")
+
+    def test_every_single_character_as_a_name(self):
+        desk = Desk(TEXT)
+        for character in map(chr, range(0x3000)):
+            if "d" <= character <= "z":
+                self.assertEqual(Desk(TEXT).say(f"widen {character}"), f"a b c {character}")
+            else:
+                self.assertRaises(BadName if character in "abc" else BadLine, desk.say, f"widen {character}")
 
     def test_values_of_any_kind(self):
         desk = Desk(TEXT)

@@ -12,6 +12,7 @@ from renamesteps.programs import is_program
 from tests import definitions
 from tests.definitions import count
 from tests.following import follow, follow_by_validity
+from tests.raising import RaisingTest
 from tests.samples import (
     BARE, BARE_CHAIN, BESIDE, CHAIN, CROWDED, EXAMPLE, FAR, FUNNEL, GAPS, HUNDRED, LARGEST, LINKS, PROGRAMS, SINGLE,
     WRONG_NAMINGS, any_values, random_programs, random_valid_naming, small_programs, wrong_numbers)
@@ -50,20 +51,7 @@ def described(program):
     return {ways[scope]: (row[1], sorted(places[use] for use in row[2])) for scope, row in enumerate(program)}
 
 
-class EditsTest(unittest.TestCase):
-    def assert_error(self, error, value, function, *arguments):
-        with self.subTest(function.__name__, kind=type(value)), self.assertRaises(error) as context:
-            function(*arguments)
-        self.assertIs(type(context.exception), error)
-        self.assertEqual(len(vars(context.exception)), 1)
-        found = list(vars(context.exception).values())[0]
-        if type(value) is int:
-            self.assertEqual((type(found), found), (int, value))
-        else:
-            self.assertIs(found, value)
-
-
-class AddUseTest(EditsTest):
+class AddUseTest(RaisingTest):
     def test_every_declaration_and_every_scope(self):
         shown = set()
         for program in some_programs(131, 10):
@@ -121,7 +109,7 @@ class AddUseTest(EditsTest):
                         self.assertIs(is_program(program), True)
 
 
-class RemoveUseTest(EditsTest):
+class RemoveUseTest(RaisingTest):
     def test_every_declaration_and_every_scope(self):
         shown = set()
         for program in some_programs(134, 10):
@@ -157,7 +145,7 @@ class RemoveUseTest(EditsTest):
                     self.assertEqual(remove_use(later, number, scope), program)
 
 
-class AddDeclarationTest(EditsTest):
+class AddDeclarationTest(RaisingTest):
     def test_the_last_one_of_its_scope(self):
         program = ((-1, 2, (0, 1)), (0, 1, (0, 2)), (1, 0, (1, 2)), (0, 1, (1, 3)))
         expected = {
@@ -179,8 +167,9 @@ class AddDeclarationTest(EditsTest):
                 self.assertIs(is_program(later), True)
                 self.assertEqual([row[1] for row in later], [row[1] + (at == scope) for at, row in enumerate(program)])
                 # No scope moves, and each use is still of the same declaration.
-                before, after = described(program), described(later)
-                self.assertEqual({way: row[1] for way, row in after.items()}, {way: row[1] for way, row in before.items()})
+                before, after = (
+                    {way: row[1] for way, row in described(found).items()} for found in (program, later))
+                self.assertEqual(after, before)
 
     def test_60_declarations(self):
         for program in (CROWDED, LARGEST):
@@ -197,7 +186,7 @@ class AddDeclarationTest(EditsTest):
             self.assert_error(NoScope, value, add_declaration, CROWDED, value)
 
 
-class RemoveDeclarationTest(EditsTest):
+class RemoveDeclarationTest(RaisingTest):
     def test_declarations_that_are_not_used(self):
         program = ((-1, 3, (1,)), (0, 2, (1, 3)), (0, 1, (1,)), (2, 2, (7,)))
         expected = {
@@ -250,7 +239,7 @@ class RemoveDeclarationTest(EditsTest):
                     self.assertEqual(add_declaration(remove_declaration(program, number), home), program)
 
 
-class AddScopeTest(EditsTest):
+class AddScopeTest(RaisingTest):
     def test_the_place_after_all_scopes_inside(self):
         program = ((-1, 1, ()), (0, 1, ()), (1, 1, (0,)), (1, 0, ()), (0, 1, (0, 3)), (4, 0, (3,)))
         expected = {
@@ -295,7 +284,7 @@ class AddScopeTest(EditsTest):
             self.assert_error(NoScope, value, add_scope, LARGEST, value)
 
 
-class RemoveScopeTest(EditsTest):
+class RemoveScopeTest(RaisingTest):
     def test_scopes_that_are_empty(self):
         program = ((-1, 1, ()), (0, 0, ()), (0, 1, ()), (2, 0, ()), (2, 1, (2,)), (4, 0, (2,)), (4, 0, ()))
         expected = {
@@ -345,7 +334,7 @@ class RemoveScopeTest(EditsTest):
                     self.assertEqual(add_scope(remove_scope(program, scope), parent), program)
 
 
-class PlanForUseTest(EditsTest):
+class PlanForUseTest(RaisingTest):
     def check(self, program, naming, number, scope, pool, way=follow):
         plan = plan_for_use(program, naming, number, scope, pool)
         self.assertLessEqual(len(plan), 4 * count(program) * definitions.height(program))

@@ -7,6 +7,9 @@ from tests.language_rules import PACKAGE, find_breaks
 
 FOLDER = pathlib.Path(__file__).resolve().parents[1] / PACKAGE
 
+# A class that can be compared: then some other rules are narrower.
+EQUAL = "class Box:\n    def __eq__(self, other):\n        return isinstance(other, Box)\n"
+
 # A rule, and a file that breaks it.
 BROKEN = (
     ("L2 place", "A = 1\nfrom renamesteps.good import work\n"),
@@ -37,6 +40,24 @@ BROKEN = (
     ("L19 raise", "def work(a):\n    raise a\n"),
     ("L19 handler", "def work(a):\n    try:\n        return a\n    except Exception:\n        return 1\n"),
     ("L19 handler", "def work(a):\n    try:\n        return a\n    except:\n        return 1\n"),
+    ("L4 default", "def work(a, b=[]):\n    return a\n"),
+    ("L4 default", "def work(a, *, b={}):\n    return a\n"),
+    ("L4 L6 L21 not needed", "def work(a):\n    b: int = a\n    return b\n"),
+    ("L5 method", "class Box:\n    def __hash__(self):\n        return 1\n"),
+    ("L7 generator", "def work(a):\n    b = (c for c in a)\n    return b\n"),
+    ("L7 generator", EQUAL + "\n\ndef work(a):\n    return any(c for c in a)\n"),
+    ("L18 method and attribute",
+     "class Box:\n    def many(self):\n        return 1\n\n\n"
+     "class Bag:\n    def __init__(self):\n        self.many = 1\n"),
+    ("L18 not assigned", "def work(a):\n    return a.many\n"),
+    ("L22 keyword", "def work(a):\n    return a.split(sep=a)\n"),
+    ("L23 stored", "def work(a):\n    b = range(a)\n    return b\n"),
+    ("L23 stored", "def work(a):\n    return a.items()\n"),
+    ("L24 set", "def work(a):\n    return set(a)\n"),
+    ("L24 set", "def work(a):\n    return [b for b in {c for c in a}]\n"),
+    ("L26 method", "class Box:\n    def format_map(self):\n        return 1\n"),
+    ("L26 attribute", "class Box:\n    def __init__(self):\n        self.items = 1\n"),
+    ("L28", "class Box:\n    def __eq__(self, other):\n        other = 1\n        return other == 1\n"),
     ("L20", "def work(a):\n    return a is 1\n"),
     ("L25", "def work(a):\n    return a.isdisjoint(a)\n"),
     ("L27 percent sign", "A = \"5 %\"\n"),

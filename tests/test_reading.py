@@ -18,10 +18,10 @@ from tests.samples import (
 WRONG_LINES = (
     "", " ", "\t", "\r", "let", "use", "let ", "use ", " let a", "let a ", "use a ", " use a", "let  a", "use  a",
     "let\ta", "use\ta", "let a\t", "let a\r", "use a\r", "{\r", "}\r", " {", "{ ", " }", "} ", "{}", "{{", "}}", "{ }",
-    "let A", "use A", "let aB", "Let a", "LET a", "Use a", "let abcdefghi", "use abcdefghi", "let a1", "let 1", "let a b",
-    "use a b", "let a let b", "let a;", "leta", "usea", "let_a", "a", "let let a", "def a", "use a,", "let \u00e4",
-    "let \u00df", "use \u03b1", "let\u00a0a", "let a\u2028", "let a\x0b", "let a\x0c", "let a\x85", "let a\x1c", "(", "[",
-    "# let a", "let a # b", "\uff5b", "let \ud800", "let -", "let a.b", "\x00", "let a\x00")
+    "let A", "use A", "let aB", "Let a", "LET a", "Use a", "let abcdefghi", "use abcdefghi", "let a1", "let 1",
+    "let a b", "use a b", "let a let b", "let a;", "leta", "usea", "let_a", "a", "let let a", "def a", "use a,", "let \u00e4",
+    "let \u00df", "use \u03b1", "let\u00a0a", "let a\u2028", "let a\x0b", "let a\x0c", "let a\x85", "let a\x1c",
+    "(", "[", "# let a", "let a # b", "\uff5b", "let \ud800", "let -", "let a.b", "\x00", "let a\x00")
 
 
 class ReadTest(unittest.TestCase):

@@ -170,6 +170,13 @@ class FindRouteTest(unittest.TestCase):
         for most in (1, 2, 23):
             self.check_too_many(SPACIOUS, SPACIOUS_NAMING, goal, FIVE, most)
 
+    def test_the_parts_of_these_tests_are_not_free(self):
+        for program, pool, part in (
+                (HELD, POOL, (0, 1)), (LOOSER, POOL, (0, 1, 8)), (SPACIOUS, FIVE, (5, 6, 7)),
+                (THREE, ("a", "b", "c", "d"), (0, 1, 2)), (MANY, HUNDRED[:51], (0, 52)), (MORE, HUNDRED[:52], (0, 53))):
+            self.assertEqual(parts_of(program, pool), (part,))
+            self.assertIs(is_free(program, part, pool), False)
+
     def test_the_default_of_most(self):
         self.check_plan(MANY, MANY_NAMING, with_names(MANY_NAMING, {52: "ab"}), HUNDRED[:51])
         self.check_plan(MANY, MANY_NAMING, with_names(MANY_NAMING, {52: "ab"}), HUNDRED[:51], most=2000)
@@ -486,8 +493,8 @@ class ShowsClosedRouteTest(unittest.TestCase):
         self.check((0, 1, 8), self.NAMINGS, True)
 
     def test_parts_that_are_none(self):
-        for part in ((), (0,), (0, 1), (1, 8), (0, 1, 2), (0, 1, 7), (0, 1, 8, 9), (0, 1, 9), (2,), (1, 0, 8), (0, 8, 1),
-                     (0, 0, 1, 8), (0, 1, 8, 8), [0, 1, 8], "018", 0, (-9, 1, 8), (-9, -8, -1), tuple(range(9))):
+        for part in ((), (0,), (0, 1), (1, 8), (0, 1, 2), (0, 1, 7), (0, 1, 8, 9), (0, 1, 9), (2,), (1, 0, 8),
+                     (0, 8, 1), (0, 0, 1, 8), (0, 1, 8, 8), [0, 1, 8], "018", 0, (-9, 1, 8), (-9, -8, -1), tuple(range(9))):
             self.check(part, self.NAMINGS, False)
         # Sets of namings that would be closed if only these declarations could be renamed.
         self.check((0, 1), (("a", "b"),), False)

@@ -12,6 +12,7 @@ from renamesteps.workspace import Workspace
 from tests import definitions
 from tests.definitions import count
 from tests.following import follow, follow_by_validity
+from tests.raising import RaisingTest
 from tests.samples import (
     BARE, BARE_CHAIN, CROWDED, EXAMPLE, HUNDRED, LARGEST, PROGRAMS, WRONG_NAMINGS, any_values, random_programs,
     random_valid_naming, small_programs, wrong_numbers)
@@ -42,18 +43,7 @@ def all_states(space):
     return found
 
 
-class WorkspaceTest(unittest.TestCase):
-    def assert_error(self, error, value, function, *arguments):
-        with self.subTest(kind=type(value)), self.assertRaises(RenameError) as context:
-            function(*arguments)
-        self.assertIs(type(context.exception), error)
-        self.assertEqual(len(vars(context.exception)), 1)
-        found = list(vars(context.exception).values())[0]
-        if type(value) is int:
-            self.assertEqual((type(found), found), (int, value))
-        else:
-            self.assertIs(found, value)
-
+class WorkspaceTest(RaisingTest):
     def assert_refused(self, error, value, space, method, *arguments):
         """The call raises the error, and nothing changes."""
         before = all_states(space)
@@ -104,7 +94,8 @@ class ConstructorTest(WorkspaceTest):
         self.assert_error(BadProgram, program, Workspace, program, (), ())
         program = ((-1, 61, ()),)
         self.assert_error(BadProgram, program, Workspace, program, HUNDRED[:61], HUNDRED[:80])
-        self.assertEqual(values_of(Workspace(CROWDED, HUNDRED[:60], HUNDRED[:80])), (CROWDED, HUNDRED[:60], HUNDRED[:80]))
+        space = Workspace(CROWDED, HUNDRED[:60], HUNDRED[:80])
+        self.assertEqual(values_of(space), (CROWDED, HUNDRED[:60], HUNDRED[:80]))
 
     def wrong_pools(self):
         return any_values() + [("a", "a"), ("a", "B"), ["a", "b"], ("a", ""), "ab", 0, HUNDRED[:81], ("a", "b", 0)]
